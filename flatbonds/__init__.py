@@ -1,0 +1,1 @@
+"""Flatbonds: webs that are laid flat."""

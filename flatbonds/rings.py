@@ -1,0 +1,228 @@
+"""Even picks and cuts, rings and bonds, and the sums of picks."""
+
+from flatbonds.bounds import MAX_LISTED
+from flatbonds.errors import InForest, Neither, NotInForest, TooMany
+from flatbonds.helpers import exits, first_way, flooded, mask_of, neighbours, places_of, reached
+from flatbonds.webs import pieces, taken_out, web_of
+
+
+def is_even(web, pick):
+    """Whether at each spot an even number of darts of the pick stands."""
+    odd = 0
+    for tie in pick:
+        a, b = web[1][tie]
+        odd = odd ^ (1 << a) ^ (1 << b)
+    return odd == 0
+
+
+def is_cut(web, pick):
+    """Whether the pick has just the ties of which one end is in some set of spots and the other one is not."""
+    return _side_of_cut(web, pick) is not None
+
+
+def is_ring(web, pick):
+    """Whether the pick is a ring."""
+    part = web_of(web, pick)
+    # An even pick has two darts at each spot at least: as many ties as spots leave no spot with more.
+    return is_even(web, pick) and len(pick) == part[0] and len(pieces(part)) == 1
+
+
+def is_bond(web, pick):
+    """Whether the pick is a bond."""
+    # A cut is made of bonds without common ties, each of which parts one more piece off.
+    return is_cut(web, pick) and len(pieces(taken_out(web, pick))) == len(pieces(web)) + 1
+
+
+def _side_of_cut(web, pick):
+    """The mask of a set of spots whose cut the pick is, None if it is no cut."""
+    spots, ties = web
+    rows = exits(web, list(range(len(ties))))
+    crossed = mask_of(pick)
+    side = {}
+    for root in range(spots):
+        if root not in side:
+            back = reached(rows, root)
+            for spot in back:
+                side[spot] = 0 if back[spot] is None else side[back[spot][1]] ^ (crossed >> back[spot][0] & 1)
+    for tie, (a, b) in enumerate(ties):
+        if side[a] ^ side[b] != crossed >> tie & 1:
+            return None
+    return mask_of([spot for spot in range(spots) if side[spot]])
+
+
+def rings(web):
+    """The ascending tuple of all rings; TooMany if there are more than MAX_LISTED."""
+    found = []
+    for tie in range(len(web[1])):
+        found.extend(_rings_from(web, tie, MAX_LISTED - len(found)))
+        if len(found) > MAX_LISTED:
+            raise TooMany(MAX_LISTED)
+    return tuple(sorted(found))
+
+
+def _rings_from(web, tie, most):
+    """The rings whose first tie is this one; if there are more than so many, some of them, yet more than so many."""
+    spots, ties = web
+    first, last = ties[tie]
+    if first == last:
+        return [(tie,)]
+    rows = exits(web, list(range(tie + 1, len(ties))))
+    beside = neighbours((spots, ties[tie + 1:]))
+    everywhere = (1 << spots) - 1
+    found = []
+    begun = [(first, 1 << first, (tie,))]
+    while begun and len(found) <= most:
+        spot, been, row = begun.pop()
+        # Only a step to a spot from which last can still be reached is taken, so each row leads to a ring.
+        open_spots = flooded(1 << last, everywhere & ~been, beside)
+        for further_tie, further in rows[spot]:
+            if further == last:
+                found.append(tuple(sorted([*row, further_tie])))
+            elif open_spots >> further & 1:
+                begun.append((further, been | (1 << further), (*row, further_tie)))
+    return found
+
+
+def bonds(web):
+    """The ascending tuple of all bonds; TooMany if there are more than MAX_LISTED."""
+    found = []
+    for piece in pieces(web):
+        if len(piece) > 1:
+            found.extend(_bonds_in(web, piece, MAX_LISTED - len(found)))
+        if len(found) > MAX_LISTED:
+            raise TooMany(MAX_LISTED)
+    return tuple(sorted(found))
+
+
+def _bonds_in(web, piece, most):
+    """The bonds in the piece; if there are more than so many, some of them, yet more than so many.
+
+    Each bond parts the piece in two sets that hang together. The set with the piece's first spot grows along
+    ties: a spot beside it is put into it, or left out for good. A choice is gone into only if the spots left out
+    hang together without the set, so each leads to a bond.
+    """
+    beside = neighbours(web)
+    whole = mask_of(piece)
+    found = []
+    begun = [(1 << piece[0], 0, beside[piece[0]])]
+    while begun and len(found) <= most:
+        inner, outer, around = begun.pop()
+        free = around & ~inner & ~outer
+        if free == 0:
+            found.append(_ties_between(web, inner))
+            continue
+        low = free & -free
+        if _hangs_together(outer | low, whole & ~inner, beside):
+            begun.append((inner, outer | low, around))
+        if _hangs_together(outer, whole & ~inner & ~low, beside):
+            begun.append((inner | low, outer, around | beside[low.bit_length() - 1]))
+    return found
+
+
+def _hangs_together(outer, rest, beside):
+    """Whether there is a rest, and all spots in outer are in one piece of it."""
+    if outer == 0:
+        return rest != 0
+    return outer & ~flooded(outer & -outer, rest, beside) == 0
+
+
+def _ties_between(web, inner):
+    """The ties of which one end is in the mask inner and the other one is not."""
+    return tuple([tie for tie, (a, b) in enumerate(web[1]) if (inner >> a ^ inner >> b) & 1])
+
+
+def sum_of(picks):
+    """The ties that are in an odd number of the picks."""
+    mask = 0
+    for pick in picks:
+        mask = mask ^ mask_of(pick)
+    return places_of(mask)
+
+
+def first_forest(web):
+    """The ties that are the greatest one of no ring."""
+    group = list(range(web[0]))
+    kept = []
+    for tie, (a, b) in enumerate(web[1]):
+        if group[a] != group[b]:
+            kept.append(tie)
+            gone, stays = group[b], group[a]
+            group = [stays if name == gone else name for name in group]
+    return tuple(kept)
+
+
+def ring_with(web, tie):
+    """The ring of this tie and ties of the first forest; InForest if the tie is in it."""
+    forest = first_forest(web)
+    if tie in forest:
+        raise InForest(tie)
+    first, last = web[1][tie]
+    return tuple(sorted([*first_way(exits(web, forest), first, 1 << last), tie]))
+
+
+def bond_with(web, tie):
+    """The bond with this tie and no other one of the first forest; NotInForest if the tie is not in it."""
+    forest = first_forest(web)
+    if tie not in forest:
+        raise NotInForest(tie)
+    beside = neighbours((web[0], tuple([web[1][other] for other in forest if other != tie])))
+    return _ties_between(web, flooded(1 << web[1][tie][0], (1 << web[0]) - 1, beside))
+
+
+def summands(picks, pick):
+    """An ascending tuple of places in picks, the sum of whose picks is the pick, None if there is none."""
+    basis = {}
+    for place, summand in enumerate(picks):
+        mask, chosen = _reduced(mask_of(summand), 1 << place, basis)
+        if mask:
+            basis[mask.bit_length()] = (mask, chosen)
+    mask, chosen = _reduced(mask_of(pick), 0, basis)
+    return None if mask else places_of(chosen)
+
+
+def _reduced(mask, chosen, basis):
+    """What is left of the mask and what is chosen, when masks of the basis are added to take its top bits away."""
+    while mask.bit_length() in basis:
+        top, also = basis[mask.bit_length()]
+        mask = mask ^ top
+        chosen = chosen ^ also
+    return (mask, chosen)
+
+
+def parted(web, pick):
+    """Rings without common ties whose sum is the pick, or else such bonds; Neither if there are none."""
+    if is_even(web, pick):
+        return _parted_in_rings(web, pick)
+    side = _side_of_cut(web, pick)
+    if side is None:
+        raise Neither()
+    return _parted_in_bonds(web, side)
+
+
+def _parted_in_rings(web, pick):
+    """Rings without common ties whose sum is the even pick."""
+    found = []
+    left = pick
+    while left:
+        first, last = web[1][left[0]]
+        ring = (left[0], *first_way(exits(web, left[1:]), first, 1 << last))
+        found.append(tuple(sorted(ring)))
+        left = tuple([tie for tie in left if tie not in ring])
+    return tuple(found)
+
+
+def _parted_in_bonds(web, side):
+    """Bonds without common ties whose sum is the cut of the mask side."""
+    beside = neighbours(web)
+    everywhere = (1 << web[0]) - 1
+    found = []
+    while side:
+        near = flooded(side & -side, side, beside)
+        side = side & ~near
+        rest = everywhere & ~near
+        while rest:
+            far = flooded(rest & -rest, rest, beside)
+            rest = rest & ~far
+            found.append(_ties_between(web, far))
+    # What lies in another piece than near has no tie to it.
+    return tuple([bond for bond in found if bond])

@@ -1,0 +1,137 @@
+"""[A3]: names of arguments, kinds of what is returned, equal answers, and that nothing passed is changed."""
+
+import copy
+import importlib
+import inspect
+import random
+import unittest
+
+from flatbonds.blocks import is_block
+from flatbonds.errors import WebError
+from flatbonds.texts import web_text
+from samples import H, LINE, LOOP, ODD_VALUES, P, R, W, bundle, far_webs, random_picks, ring, small_blocks, small_webs
+
+INTERFACE = {
+    "webs": {"web_error": ["value"], "is_pick": ["web", "value"], "spots_of": ["web", "pick"],
+             "darts_at": ["web", "spot"], "pieces": ["web"], "taken_out": ["web", "pick"], "web_of": ["web", "pick"],
+             "drawn_in": ["web", "tie"]},
+    "texts": {"web_text": ["web"], "parse_web": ["value"]},
+    "rings": {"is_even": ["web", "pick"], "is_cut": ["web", "pick"], "is_ring": ["web", "pick"],
+              "is_bond": ["web", "pick"], "rings": ["web"], "bonds": ["web"], "sum_of": ["picks"],
+              "first_forest": ["web"], "ring_with": ["web", "tie"], "bond_with": ["web", "tie"],
+              "summands": ["picks", "pick"], "parted": ["web", "pick"]},
+    "blocks": {"blocks": ["web"], "cut_spots": ["web"], "is_block": ["web"], "block_line": ["web", "tie", "last"]},
+    "roads": {"roads_apart": ["web", "spot", "last"], "stop": ["web", "spot", "last"],
+              "roads_hold": ["web", "spot", "last", "value"], "stop_holds": ["web", "spot", "last", "value"],
+              "ears": ["web", "tie"], "ears_hold": ["web", "tie", "value"], "rising": ["web", "tie"],
+              "rising_holds": ["web", "tie", "value"]},
+    "trees": {"is_parting": ["web", "pick"], "poles": ["web", "pick"], "joins": ["web"], "tree": ["web"],
+              "part_web": ["web", "number"], "is_firm": ["web"], "tree_holds": ["web", "value"],
+              "crossing": ["web", "pick"], "meeting": ["web", "tie", "last"]},
+}
+
+
+def function(module, name):
+    return getattr(importlib.import_module("flatbonds." + module), name)
+
+
+def only_plain(value):
+    """Whether value is made of tuples, integers, strings, True, False and None alone."""
+    if type(value) is tuple:
+        return all(only_plain(item) for item in value)
+    return value is None or type(value) in (int, str, bool)
+
+
+def answer(call, named):
+    """What the call returns, or the error that it raises with what it keeps."""
+    try:
+        return call(**named)
+    except WebError as error:
+        return (type(error).__name__, tuple(sorted(vars(error).items())))
+
+
+def calls_for(web, rng):
+    """Pairs of each function and arguments by name that suit the web."""
+    tie = rng.randrange(len(web[1])) if web[1] else None
+    row = tuple(range(0, len(web[1]), 2))
+    picks = tuple(random_picks(rng, web, 3))
+    worths = {"web": web, "pick": picks[-1], "picks": picks, "spot": rng.randrange(web[0]), "number": rng.randrange(3),
+              "tie": tie, "value": (row, row)}
+    for module, names in INTERFACE.items():
+        for name, words in names.items():
+            if tie is None and "tie" in words:
+                continue
+            named = {word: worths[word] for word in words if word != "last"}
+            if "last" in words:
+                limit = web[0] if "spot" in words else len(web[1])
+                named["last"] = rng.randrange(limit)
+            if name == "parse_web":
+                named["value"] = web_text(web)
+            yield function(module, name), named
+
+
+class InterfaceTest(unittest.TestCase):
+    def test_names_and_arguments(self):
+        for module, names in INTERFACE.items():
+            for name, words in names.items():
+                call = function(module, name)
+                self.assertEqual(list(inspect.signature(call).parameters), words, name)
+                self.assertEqual(call.__module__, "flatbonds." + module)
+
+
+class AnswersTest(unittest.TestCase):
+    def test_kinds_places_names_and_equal_answers(self):
+        rng = random.Random(70)
+        webs = small_webs(70, 30) + small_blocks(70, 20) + list(far_webs().values())
+        for web in webs:
+            for call, named in calls_for(web, rng):
+                kept = copy.deepcopy(named)
+                told = answer(call, named)
+                self.assertTrue(only_plain(told), (call.__name__, told))
+                self.assertEqual(told, answer(call, copy.deepcopy(named)))
+                self.assertEqual(named, kept)
+                words = list(inspect.signature(call).parameters)
+                by_place = answer(lambda: call(*[named[word] for word in words]), {})
+                self.assertEqual(told, by_place)
+
+    def test_values_are_never_changed(self):
+        takers = [(function(module, name), words) for module, names in INTERFACE.items()
+                  for name, words in names.items() if "value" in words]
+        self.assertEqual(len(takers), 8)
+        for web in (W, H, R, LINE, bundle(3), ring(5)):
+            for value in ODD_VALUES + [[web], {"web": [web]}, (list(web), [1]), ([(0, 1)], [2])]:
+                for call, words in takers:
+                    kept = copy.deepcopy(value)
+                    named = {"web": web, "spot": 0, "last": 1, "tie": 0, "value": value}
+                    told = answer(call, {word: named[word] for word in words})
+                    self.assertTrue(only_plain(told) or "BadText" in told)
+                    self.assertEqual(value, kept)
+
+    def test_nothing_is_what_no_holds_takes(self):
+        for name in ("roads_hold", "stop_holds"):
+            self.assertIs(function("roads", name)(W, 0, 1, None), False)
+        for name in ("ears_hold", "rising_holds"):
+            for web in (W, P, LOOP, LINE):
+                self.assertIs(function("roads", name)(web, 0, None), False)
+        for web in (W, LOOP, LINE):
+            self.assertTrue(is_block(web))
+            self.assertIs(function("trees", "tree_holds")(web, None), False)
+
+    def test_deep_and_long_values(self):
+        deep = ()
+        for _ in range(19):
+            deep = (deep,)
+        long = tuple(range(3000))
+        for value in (deep, long, [deep], (long[:1500], long[:1400]), tuple((at,) for at in range(1499)), "x" * 3000,
+                      "\n" * 3000, {at: at for at in range(1400)}):
+            for name in ("roads_hold", "stop_holds"):
+                self.assertIs(function("roads", name)(W, 0, 1, value), False)
+            for name in ("ears_hold", "rising_holds"):
+                self.assertIs(function("roads", name)(W, 0, value), False)
+            self.assertIs(function("trees", "tree_holds")(W, value), False)
+            self.assertIs(function("webs", "is_pick")(W, value), False)
+            self.assertNotEqual(function("webs", "web_error")(value), None)
+
+
+if __name__ == "__main__":
+    unittest.main()
