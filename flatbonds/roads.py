@@ -22,7 +22,7 @@ def stop(web, spot, last):
     straight = _ties_of(web, spot, last)
     _, back = _most_flow(_without(web, straight), spot, last)
     # One more road could come to each of these spots, but none could leave it.
-    spots = [at for at in range(web[0]) if at not in (spot, last) and 2 * at in back and 2 * at + 1 not in back]
+    spots = [at for at in range(web[0]) if 2 * at in back and 2 * at + 1 not in back]
     return (tuple(spots), straight)
 
 
@@ -105,8 +105,8 @@ def roads_hold(web, spot, last, value):
 
 
 def _spots_along(web, spot, value):
-    """The spots, from spot on, along a road; None if value is no road that begins there."""
-    if not is_row(value, len(web[1])) or len(value) == 0:
+    """The spots, from spot on, along a tuple of ties; None if value is none that leads from spot to new ones alone."""
+    if not is_row(value, len(web[1])):
         return None
     line = [spot]
     for tie in value:

@@ -184,9 +184,8 @@ def _is_same(value, known):
         if not isinstance(value, tuple) or len(value) != len(known):
             return False
         return all([_is_same(item, known[at]) for at, item in enumerate(value)])
-    if isinstance(known, str):
-        return isinstance(value, str) and value == known
-    return is_integer(value) and value == known
+    # True and False equal 1 and 0, though they are no integers.
+    return value == known and (isinstance(known, str) or is_integer(value))
 
 
 def crossing(web, pick):

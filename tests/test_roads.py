@@ -108,6 +108,20 @@ class RoadsHoldTest(unittest.TestCase):
         self.assertIs(roads_hold(W, 0, 3, ((0, 4), (1, 5), (2,))), True)
         self.assertIs(roads_hold(W, 3, 0, ((4, 0), (5, 1), (2,))), True)
 
+    def test_roads_that_meet_at_a_spot_alone(self):
+        # Spots 1, 2 and 3 lie between; each road has ties of its own.
+        web = (5, ((0, 1), (1, 4), (0, 2), (1, 2), (1, 3), (3, 4), (0, 1), (2, 4), (0, 3)))
+        self.assertIs(roads_hold(web, 0, 4, ((0, 1), (2, 7), (8, 5))), True)
+        self.assertIs(roads_hold(web, 0, 4, ((0, 1), (2, 3, 4, 5))), False)
+        self.assertIs(roads_hold(web, 0, 4, ((0, 1), (6, 4, 5))), False)
+        self.assertIs(roads_hold(web, 0, 4, ((8, 5), (2, 7), (6, 4, 5))), False)
+        self.assertIs(roads_hold(web, 0, 4, ((2, 3, 1), (6, 4, 5))), False)
+        self.assertIs(roads_hold(web, 0, 4, ((2, 3, 1), (8, 5))), True)
+
+    def test_roads_with_a_tie_in_common(self):
+        self.assertIs(roads_hold(bundle(2), 0, 1, ((0,), (1,), (0,))), False)
+        self.assertIs(roads_hold(bundle(2), 0, 1, ((1,), (1,))), False)
+
     def test_loops_and_ways_past_the_end(self):
         web = (3, ((0, 0), (0, 1), (1, 1), (1, 2), (1, 2)))
         for road in [(0, 1), (1, 2), (1, 3, 4), (1, 3, 3)]:
@@ -212,6 +226,10 @@ class EarsTest(unittest.TestCase):
                       ((False, 1, 3, 2), (4, 5)), ((0, True, 3, 2), (4, 5)), ((0, 1, 3, 2), (4, 5, 5)), (good,),
                       ((1, 0, 2, 3), (4, 5)), ((0, 1, 2, 3), (4, 5)), ((0, 2, 3, 1), None), None, 0, "", {}, ()]:
             self.assertIs(ears_hold(H, 0, value), False, value)
+        # A first ear whose last tie leads elsewhere than back, or from elsewhere.
+        self.assertIs(ears_hold(W, 0, ((0, 3, 2), (1,), (4,), (5,))), False)
+        self.assertIs(ears_hold(W, 0, ((0, 3, 5), (1,), (2,), (4,))), False)
+        self.assertIs(ears_hold(W, 0, ((0, 5), (1,), (2,), (3,), (4,))), False)
         # An ear that leads back to its first spot, one that goes past a spot of an ear, one that hangs free.
         web = (5, ((0, 1), (1, 2), (0, 2), (2, 3), (3, 4), (2, 4)))
         self.assertIs(ears_hold(web, 0, ((0, 1, 2), (3, 4, 5))), False)
@@ -228,6 +246,7 @@ class EarsTest(unittest.TestCase):
     def test_odd_values(self):
         for value in ODD_VALUES:
             self.assertIs(ears_hold(W, 0, value), False, value)
+        self.assertIs(ears_hold(BARE, 0, ()), False)
 
 
 class RisingTest(unittest.TestCase):

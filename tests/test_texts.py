@@ -51,6 +51,11 @@ class TextsTest(unittest.TestCase):
             self.assertEqual(self.bad_line(line), 0, line)
             self.assertEqual(self.bad_line(line + "\nx"), 0, line)
 
+    def test_numbers_of_very_many_figures(self):
+        for many in (3, 5, 3000, 5000, 100000):
+            self.assertEqual(self.bad_line("1" * many), 0)
+            self.assertEqual(self.bad_line("3\n0 " + "1" * many), 1)
+
     def test_further_lines(self):
         for line in ["", " ", "0", "0 ", " 0", "0 1 ", " 0 1", "0  1", "0 1 1", "1 0", "0 3", "3 3", "-1 0", "00 1", "0 01",
                      "+0 1", "0,1", "0\t1", "a b", "0 x", "0 " + "1" * 2990, "0 -0", "\u0660 1", "0 1\r"]:
