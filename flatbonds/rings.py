@@ -1,9 +1,11 @@
 """Even picks and cuts, rings and bonds, and the sums of picks."""
 
+from flatbonds.blocks import blocks
 from flatbonds.bounds import MAX_LISTED
+from flatbonds.cutting import ask_few, bond_masks
 from flatbonds.errors import InForest, Neither, NotInForest, TooMany
 from flatbonds.helpers import exits, first_way, flooded, mask_of, neighbours, places_of, reached
-from flatbonds.webs import pieces, taken_out, web_of
+from flatbonds.webs import pieces, spots_of, taken_out, web_of
 
 
 def is_even(web, pick):
@@ -86,44 +88,11 @@ def _rings_from(web, tie, most):
 def bonds(web):
     """The ascending tuple of all bonds; TooMany if there are more than MAX_LISTED."""
     found = []
-    for piece in pieces(web):
-        if len(piece) > 1:
-            found.extend(_bonds_in(web, piece, MAX_LISTED - len(found)))
-        if len(found) > MAX_LISTED:
-            raise TooMany(MAX_LISTED)
-    return tuple(sorted(found))
-
-
-def _bonds_in(web, piece, most):
-    """The bonds in the piece; if there are more than so many, some of them, yet more than so many.
-
-    Each bond parts the piece in two sets that hang together. The set with the piece's first spot grows along
-    ties: a spot beside it is put into it, or left out for good. A choice is gone into only if the spots left out
-    hang together without the set, so each leads to a bond.
-    """
-    beside = neighbours(web)
-    whole = mask_of(piece)
-    found = []
-    begun = [(1 << piece[0], 0, beside[piece[0]])]
-    while begun and len(found) <= most:
-        inner, outer, around = begun.pop()
-        free = around & ~inner & ~outer
-        if free == 0:
-            found.append(_ties_between(web, inner))
-            continue
-        low = free & -free
-        if _hangs_together(outer | low, whole & ~inner, beside):
-            begun.append((inner, outer | low, around))
-        if _hangs_together(outer, whole & ~inner & ~low, beside):
-            begun.append((inner | low, outer, around | beside[low.bit_length() - 1]))
-    return found
-
-
-def _hangs_together(outer, rest, beside):
-    """Whether there is a rest, and all spots in outer are in one piece of it."""
-    if outer == 0:
-        return rest != 0
-    return outer & ~flooded(outer & -outer, rest, beside) == 0
+    for block in blocks(web):
+        if len(spots_of(web, block)) > 1:
+            found.extend(bond_masks(web, block))
+            ask_few(len(found))
+    return tuple(sorted([places_of(mask) for mask in found]))
 
 
 def _ties_between(web, inner):

@@ -3,6 +3,7 @@
 from flatbonds.blocks import cut_spots, is_block
 from flatbonds.errors import NoPart, NotBlock, NotParting
 from flatbonds.helpers import flooded, is_integer, mask_of, neighbours, places_of
+from flatbonds.parts import parts_of
 from flatbonds.webs import spots_of, web_of
 
 
@@ -59,20 +60,6 @@ def _strands(web, beside, low, high):
     return found
 
 
-def _has_many(mask):
-    """Whether more than one place is in the mask."""
-    return mask & (mask - 1) != 0
-
-
-def _all_strands(web):
-    """The pairs of a spot and the strands between it and a lesser one, for all that are more than one."""
-    beside = neighbours(web)
-    found = []
-    for high in range(web[0]):
-        found.extend([(high, _strands(web, beside, low, high)) for low in range(high)])
-    return [(high, strands) for high, strands in found if len(strands) > 1]
-
-
 def _is_chain(web, strand, pole):
     """Whether some spot within the strand, which has ties enough, lies on each way through it from the pole."""
     chain = places_of(strand)
@@ -82,95 +69,36 @@ def _is_chain(web, strand, pole):
     return len(cut_spots(web_of(web, chain))) > 0
 
 
-def _joins_at(web, strands, pole):
-    """The masks of those strands that are sides of joins.
-
-    Of three strands or more each one's parting is a join if it has two ties: what would cross it had to part
-    this strand at a spot within, and the other strands, too, which hang together at both poles. What crosses the
-    parting of just two strands parts both of them at a spot within, so both are chains.
-    """
-    many = [strand for strand in strands if _has_many(strand)]
-    if len(strands) > 2:
-        return many
-    if len(many) < 2 or (_is_chain(web, many[0], pole) and _is_chain(web, many[1], pole)):
-        return []
-    return many[:1]
-
-
 def joins(web):
     """The tuple of the joins, each told by its side without the tie 0; NotBlock if the web is no block."""
     _ask_block(web)
-    everything = (1 << len(web[1])) - 1
-    sides = []
-    for pole, strands in _all_strands(web):
-        sides.extend([everything & ~side if side & 1 else side for side in _joins_at(web, strands, pole)])
-    return tuple(sorted([places_of(side) for side in sides]))
-
-
-def _homes(masks, sides):
-    """For each mask the number of the part of the least side that has it and more, 0 if there is none."""
-    sizes = [len(places_of(side)) for side in sides]
-    homes = []
-    for mask in masks:
-        wider = [(sizes[at], at + 1) for at, side in enumerate(sides) if mask & ~side == 0 and mask != side]
-        homes.append(min(wider)[1] if wider else 0)
-    return homes
-
-
-def _grown(web, sides):
-    """The members of each part of the tree with these joins, and for each join the part above that of its side."""
-    masks = [mask_of(side) for side in sides]
-    above = _homes(masks, masks)
-    members = [[] for _ in range(len(sides) + 1)]
-    for join, home in enumerate(above):
-        members[home].append(-1 - join)
-        members[join + 1].append(-1 - join)
-    homes = _homes([1 << tie for tie in range(len(web[1]))], masks)
-    for tie, home in enumerate(homes):
-        members[home].append(tie)
-    return ([tuple(sorted(row)) for row in members], above)
-
-
-def _web_of_members(web, sides, members):
-    """The web of the part with these members."""
-    ends = [web[1][member] if member >= 0 else _shared(web, sides[-1 - member]) for member in members]
-    return web_of((web[0], tuple(ends)), tuple(range(len(ends))))
-
-
-def _kind(part):
-    """The kind of the part that has this web."""
-    spots, ties = part
-    if len(ties) == 1:
-        return "line"
-    # The web of a part is a block, so it is a ring just if it has as many ties as spots.
-    if spots == len(ties):
-        return "ring"
-    return "bundle" if spots == 2 else "firm"
+    _, sides, _ = parts_of(web)
+    return tuple(sides)
 
 
 def tree(web):
     """The tuple of the parts of the tree, pairs of a kind and members; NotBlock if the web is no block."""
-    sides = joins(web)
-    members, _ = _grown(web, sides)
-    return tuple([(_kind(_web_of_members(web, sides, row)), row) for row in members])
+    _ask_block(web)
+    parts, _, _ = parts_of(web)
+    return tuple([(kind, members) for kind, members, _ in parts])
 
 
 def part_web(web, number):
     """The web of the part with the number; NotBlock if the web is no block, NoPart if there is no such part."""
-    sides = joins(web)
-    if not 0 <= number <= len(sides):
+    _ask_block(web)
+    parts, _, _ = parts_of(web)
+    if not 0 <= number < len(parts):
         raise NoPart(number)
-    members, _ = _grown(web, sides)
-    return _web_of_members(web, sides, members[number])
+    _, members, ends = parts[number]
+    return web_of((web[0], ends), tuple(range(len(members))))
 
 
 def is_firm(web):
     """Whether the web is a block with four spots at least and no parting."""
     if web[0] < 4 or not is_block(web):
         return False
-    # With four spots some strand has two ties; three strands or more can be parted into it and the others.
-    return all([len(strands) == 2 and not (_has_many(strands[0]) and _has_many(strands[1]))
-                for _, strands in _all_strands(web)])
+    parts, _, _ = parts_of(web)
+    return len(parts) == 1 and parts[0][0] == "firm"
 
 
 def tree_holds(web, value):
@@ -221,9 +149,10 @@ def meeting(web, tie, last):
 
     NotBlock if the web is no block.
     """
-    members, above = _grown(web, joins(web))
-    start = _up([number for number, row in enumerate(members) if tie in row][0], above)
-    end = _up([number for number, row in enumerate(members) if last in row][0], above)
+    _ask_block(web)
+    parts, _, above = parts_of(web)
+    start = _up([number for number, part in enumerate(parts) if tie in part[1]][0], above)
+    end = _up([number for number, part in enumerate(parts) if last in part[1]][0], above)
     middle = [number for number in start if number in end][0]
     return tuple(start[:start.index(middle)] + end[:end.index(middle) + 1][::-1])
 

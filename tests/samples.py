@@ -7,6 +7,10 @@ H = (5, ((0, 1), (1, 2), (0, 3), (2, 3), (0, 4), (2, 4)))
 P = (4, ((0, 1), (0, 1), (1, 2), (2, 2), (2, 3)))
 R = (5, ((0, 1), (1, 2), (2, 3), (3, 4), (0, 4), (0, 2)))
 F = (5, tuple((a, b) for a in range(5) for b in range(a + 1, 5)))
+# Each of three spots tied to each of three others.
+T = (6, tuple((a, b) for a in range(3) for b in range(3, 6)))
+PETERSEN = (10, tuple([(at, at + 1) for at in range(4)] + [(0, 4)] + [(at, at + 5) for at in range(5)]
+                      + [(5, 7), (7, 9), (6, 9), (6, 8), (5, 8)]))
 BARE = (1, ())
 LOOP = (1, ((0, 0),))
 LINE = (2, ((0, 1),))
@@ -129,6 +133,67 @@ def random_block(rng, spots, ties):
     ends = [(names[a], names[b]) for a, b in ends]
     rng.shuffle(ends)
     return (spots, tuple((min(pair), max(pair)) for pair in ends))
+
+
+def flat_web(rng, spots, ties):
+    """A web of so many spots, three at least, with a flat laying, and at most so many ties, none beside another one."""
+    ends = [(0, 1), (0, 2), (1, 2)]
+    corners = [(0, 1, 2), (0, 1, 2)]
+    for spot in range(3, spots):
+        a, b, c = corners.pop(rng.randrange(len(corners)))
+        ends.extend([(a, spot), (b, spot), (c, spot)])
+        corners.extend([(a, b, spot), (a, c, spot), (b, c, spot)])
+    return drawn_order(rng, (spots, tuple(rng.sample(ends, min(ties, len(ends))))))
+
+
+def drawn_order(rng, web):
+    """The web with its spots and ties in a drawn order."""
+    names = rng.sample(range(web[0]), web[0])
+    ends = [tuple(sorted((names[a], names[b]))) for a, b in rng.sample(web[1], len(web[1]))]
+    return (web[0], tuple(ends))
+
+
+def put_together(rng, *webs):
+    """A block of all these blocks, each laid with a tie on a tie of those ahead, which goes or stays, in a drawn order."""
+    spots, ties = webs[0]
+    ties = list(ties)
+    for further, more in webs[1:]:
+        more = list(more)
+        a, b = rng.choice(ties)
+        low, high = more.pop(rng.randrange(len(more)))
+        if rng.random() < 0.5:
+            ties.remove((a, b))
+        if rng.random() < 0.5:
+            a, b = b, a
+        names = {low: a, high: b}
+        for spot in range(further):
+            if spot not in names:
+                names[spot] = spots
+                spots += 1
+        ties.extend(tuple(sorted((names[first], names[last]))) for first, last in more)
+    return drawn_order(rng, (spots, tuple(ties)))
+
+
+def drawn_parts(rng, most):
+    """A block that is put together of rings, bundles, wheels and such, with at most so many ties."""
+    makers = [lambda: ring(rng.randint(3, 9)), lambda: bundle(rng.randint(3, 6)), lambda: wheel(rng.randint(3, 7)),
+              lambda: ring(rng.randint(3, 20)), lambda: bundle(rng.randint(3, 12))]
+    webs, ties = [ring(3)], 3
+    while True:
+        web = rng.choice(makers)()
+        if ties + len(web[1]) > most or rng.random() < 0.02:
+            return put_together(rng, *webs)
+        webs.append(web)
+        ties += len(web[1])
+
+
+def cubic_web(rng, spots):
+    """A web with three ties at each spot, none a loop or beside another one; spots is even."""
+    while True:
+        ends = rng.sample([spot for spot in range(spots) for _ in range(3)], 3 * spots)
+        ties = {tuple(sorted(ends[at:at + 2])) for at in range(0, 3 * spots, 2)}
+        if len(ties) == 3 * spots // 2 and all(a != b for a, b in ties):
+            return (spots, tuple(rng.sample(sorted(ties), len(ties))))
 
 
 def small_webs(seed, many, most_spots=6, most_ties=8):

@@ -8,8 +8,15 @@ import unittest
 
 from flatbonds.blocks import is_block
 from flatbonds.errors import WebError
+from flatbonds.layings import lay, over
+from flatbonds.papers import outer_paper, unwoven
+from flatbonds.rings import rings
 from flatbonds.texts import web_text
-from samples import H, LINE, LOOP, ODD_VALUES, P, R, W, bundle, far_webs, random_picks, ring, small_blocks, small_webs
+from flatbonds.twists import form_way
+from flatbonds.webs import darts_at
+from samples import (
+    BARE, H, LINE, LOOP, ODD_VALUES, P, R, W, bundle, far_webs, random_picks, ring, small_blocks, small_webs
+)
 
 INTERFACE = {
     "webs": {"web_error": ["value"], "is_pick": ["web", "value"], "spots_of": ["web", "pick"],
@@ -28,7 +35,36 @@ INTERFACE = {
     "trees": {"is_parting": ["web", "pick"], "poles": ["web", "pick"], "joins": ["web"], "tree": ["web"],
               "part_web": ["web", "number"], "is_firm": ["web"], "tree_holds": ["web", "value"],
               "crossing": ["web", "pick"], "meeting": ["web", "tie", "last"]},
+    "layings": {"laying_error": ["web", "value"], "faces": ["web", "laying"], "is_flat": ["web", "laying"],
+                "over": ["web", "laying"], "lay": ["web"], "how_many": ["web"], "all_layings": ["web"],
+                "open_pairs": ["web"], "filled": ["web"], "thinned": ["web", "laying", "pick"],
+                "put_in": ["web", "laying", "tie"], "sides": ["web", "laying", "tie"],
+                "at_face": ["web", "laying", "spots"]},
+    "papers": {"paper_holds": ["web", "value"], "forbidden": ["web"], "bare": ["web"], "fewest_out": ["web"],
+               "is_outer": ["web"], "outer_paper": ["web"], "is_two_road": ["web"], "two_road_paper": ["web"],
+               "unwoven": ["web"], "unwoven_holds": ["web", "value"]},
+    "moves": {"moved": ["web", "laying", "value"], "is_loose": ["web", "laying", "pick"],
+              "back": ["web", "laying", "move"], "way": ["web", "laying", "last"],
+              "way_holds": ["web", "laying", "last", "value"], "moves_between": ["web", "laying", "last"]},
+    "twists": {"changed": ["web", "value"], "ring_form": ["web"], "form_way": ["web"],
+               "form_way_holds": ["web", "value"], "same_rings": ["web", "other"], "rings_part": ["web", "other"],
+               "as_ties": ["web", "names"], "ring_of_web": ["count", "picks"], "least_spots": ["web"]},
 }
+
+
+# Values that hold, or can be done, now and then.
+GOOD_VALUES = {
+    "laying_error": lambda web, named: any_laying(web), "paper_holds": lambda web, named: outer_paper(web),
+    "unwoven_holds": lambda web, named: unwoven(web), "moved": lambda web, named: ("over",),
+    "way_holds": lambda web, named: (("over",),), "form_way_holds": lambda web, named: form_way(web),
+    "changed": lambda web, named: ("names", tuple(range(web[0]))[::-1]),
+}
+
+
+def any_laying(web):
+    """A flat laying, or any one of a web that has no flat one."""
+    found = lay(web)
+    return tuple(darts_at(web, spot) for spot in range(web[0])) if found is None else found
 
 
 def function(module, name):
@@ -56,17 +92,26 @@ def calls_for(web, rng):
     row = tuple(range(0, len(web[1]), 2))
     picks = tuple(random_picks(rng, web, 3))
     worths = {"web": web, "pick": picks[-1], "picks": picks, "spot": rng.randrange(web[0]), "number": rng.randrange(3),
-              "tie": tie, "value": (row, row)}
+              "tie": tie, "value": (row, row), "laying": any_laying(web), "move": ("over",),
+              "spots": tuple(range(0, web[0], 3)), "names": tuple(range(len(web[1])))[::-1],
+              "other": (web[0], web[1][::-1])}
     for module, names in INTERFACE.items():
         for name, words in names.items():
             if tie is None and "tie" in words:
                 continue
-            named = {word: worths[word] for word in words if word != "last"}
+            named = {word: worths[word] for word in words if word in worths}
             if "last" in words:
                 limit = web[0] if "spot" in words else len(web[1])
-                named["last"] = rng.randrange(limit)
+                named["last"] = over(web, any_laying(web)) if module == "moves" else rng.randrange(limit)
             if name == "parse_web":
                 named["value"] = web_text(web)
+            if name == "put_in":
+                named["tie"] = (0, web[0] - 1)
+            if name == "ring_of_web":
+                count = min(len(web[1]), 6)
+                named.update(count=count, picks=rings((web[0], web[1][:count])))
+            if name in GOOD_VALUES and rng.random() < 0.7:
+                named["value"] = GOOD_VALUES[name](web, named)
             yield function(module, name), named
 
 
@@ -97,14 +142,16 @@ class AnswersTest(unittest.TestCase):
     def test_values_are_never_changed(self):
         takers = [(function(module, name), words) for module, names in INTERFACE.items()
                   for name, words in names.items() if "value" in words]
-        self.assertEqual(len(takers), 8)
+        self.assertEqual(len(takers), 15)
         for web in (W, H, R, LINE, bundle(3), ring(5)):
             for value in ODD_VALUES + [[web], {"web": [web]}, (list(web), [1]), ([(0, 1)], [2])]:
                 for call, words in takers:
                     kept = copy.deepcopy(value)
-                    named = {"web": web, "spot": 0, "last": 1, "tie": 0, "value": value}
+                    named = {"web": web, "spot": 0, "last": 1, "tie": 0, "value": value, "laying": any_laying(web)}
+                    if "laying" in words:
+                        named["last"] = any_laying(web)
                     told = answer(call, {word: named[word] for word in words})
-                    self.assertTrue(only_plain(told) or "BadText" in told)
+                    self.assertTrue(only_plain(told))
                     self.assertEqual(value, kept)
 
     def test_nothing_is_what_no_holds_takes(self):
@@ -116,6 +163,11 @@ class AnswersTest(unittest.TestCase):
         for web in (W, LOOP, LINE):
             self.assertTrue(is_block(web))
             self.assertIs(function("trees", "tree_holds")(web, None), False)
+        for web in (W, P, LOOP, LINE, BARE, (3, ())):
+            for module, name in (("papers", "paper_holds"), ("papers", "unwoven_holds"), ("twists", "form_way_holds")):
+                self.assertIs(function(module, name)(web, None), False)
+        for web in (W, P, LOOP, LINE):
+            self.assertIs(function("moves", "way_holds")(web, lay(web), lay(web), None), False)
 
     def test_deep_and_long_values(self):
         deep = ()
@@ -131,6 +183,14 @@ class AnswersTest(unittest.TestCase):
             self.assertIs(function("trees", "tree_holds")(W, value), False)
             self.assertIs(function("webs", "is_pick")(W, value), False)
             self.assertNotEqual(function("webs", "web_error")(value), None)
+            self.assertEqual(function("layings", "laying_error")(W, value), (None, "laying"))
+            for module, name in (("papers", "paper_holds"), ("papers", "unwoven_holds"), ("twists", "form_way_holds")):
+                self.assertIs(function(module, name)(W, value), False)
+            self.assertIs(function("moves", "way_holds")(W, lay(W), lay(W), value), False)
+            for call, named in ((function("moves", "moved"), {"web": W, "laying": lay(W)}),
+                                (function("twists", "changed"), {"web": W})):
+                for worth in (value, ("flip", value), ("twist", value), ("names", value)):
+                    self.assertIn(answer(call, {**named, "value": worth}), [("BadMove", ()), ("BadChange", ())])
 
 
 if __name__ == "__main__":

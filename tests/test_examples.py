@@ -4,18 +4,28 @@ import unittest
 
 from flatbonds import errors
 from flatbonds.blocks import block_line, blocks, cut_spots, is_block
+from flatbonds.layings import (
+    all_layings, at_face, faces, filled, how_many, is_flat, laying_error, open_pairs, over, sides, thinned
+)
+from flatbonds.moves import is_loose, moved, moves_between
+from flatbonds.papers import bare, fewest_out, is_outer, is_two_road, paper_holds, two_road_paper, unwoven_holds
 from flatbonds.rings import (
     bond_with, bonds, first_forest, is_bond, is_cut, is_even, ring_with, rings, sum_of, summands
 )
 from flatbonds.roads import ears_hold, rising_holds, roads_apart, roads_hold, stop, stop_holds
 from flatbonds.texts import parse_web, web_text
 from flatbonds.trees import crossing, is_firm, is_parting, joins, meeting, part_web, poles, tree, tree_holds
+from flatbonds.twists import as_ties, changed, least_spots, ring_form, ring_of_web, same_rings
 from flatbonds.webs import darts_at, drawn_in, is_pick, pieces, spots_of, taken_out, web_error, web_of
 
 W = (4, ((0, 1), (0, 2), (0, 3), (1, 2), (1, 3), (2, 3)))
 H = (5, ((0, 1), (1, 2), (0, 3), (2, 3), (0, 4), (2, 4)))
 P = (4, ((0, 1), (0, 1), (1, 2), (2, 2), (2, 3)))
 R = (5, ((0, 1), (1, 2), (2, 3), (3, 4), (0, 4), (0, 2)))
+L = ((0, 2, 4), (1, 8, 6), (3, 7, 10), (5, 11, 9))
+F = (5, ((0, 1), (0, 2), (0, 3), (0, 4), (1, 2), (1, 3), (1, 4), (2, 3), (2, 4), (3, 4)))
+N = ((0, 2), (1, 3, 4), (5, 6, 7, 8), (9,))
+Q = (4, ((0, 1), (0, 1), (1, 2), (0, 0), (1, 3)))
 
 
 class ExamplesTest(unittest.TestCase):
@@ -88,6 +98,56 @@ class ExamplesTest(unittest.TestCase):
         self.assertEqual(caught.exception.number, 7)
         with self.assertRaises(errors.NotBlock):
             joins(P)
+
+    def test_layings(self):
+        self.assertEqual(
+            [laying_error(W, L), laying_error(W, ((0, 2, 4), (8, 6, 1), (3, 7, 10), (5, 11, 9))), faces(W, L),
+             is_flat(W, L), over(W, L)],
+            [None, (1, 'turn'), ((0, 8, 5), (1, 2, 7), (3, 4, 11), (6, 10, 9)), True,
+             ((0, 4, 2), (1, 6, 8), (3, 10, 7), (5, 9, 11))])
+        self.assertEqual(
+            [how_many(W), how_many(H), how_many(P), how_many(F), all_layings(W) == (L, over(W, L)), sides(W, L, 0),
+             at_face(W, L, (0, 1, 2)), thinned(W, L, (5,))],
+            [2, 2, 12, 0, True, (0, 1), 1, ((0, 2, 4), (1, 8, 6), (3, 7), (5, 9))])
+        self.assertEqual(
+            [open_pairs((3, ((0, 1),))), open_pairs(F), filled(W) == W, len(filled(H)[1]),
+             len(filled((5, F[1][1:]))[1])],
+            [((0, 1), (0, 2), (1, 2)), (), True, 9, 9])
+
+    def test_papers(self):
+        paper = ("five", (0, 1, 2, 3, 4), ((0,), (1,), (2,), (3,), (4,), (5,), (6,), (7,), (8,), (9,)))
+        self.assertEqual(
+            [paper_holds(F, paper), bare(F), bare(W), fewest_out(F), fewest_out(W)],
+            [True, (0, 1, 2, 3, 4, 5, 6, 7, 8, 9), None, (0,), ()])
+        self.assertEqual(
+            [paper_holds(H, ("two", (0, 2, 1, 3, 4), ((0,), (2,), (4,), (1,), (3,), (5,)))), is_outer(H), is_outer(P),
+             is_two_road(W), is_two_road(H), two_road_paper(H)],
+            [True, False, True, False, True, None])
+        self.assertEqual(
+            unwoven_holds(H, (("through", 0), ("through", 2), ("beside", 1), ("through", 4), ("beside", 3), ("end", 5))),
+            True)
+
+    def test_moves(self):
+        self.assertEqual(
+            [moved(P, N, ("hop", (3,), 8)), moved(P, N, ("flip", (0, 1))), is_loose(P, N, (3,)), is_loose(P, N, (2, 4)),
+             moves_between(W, L, over(W, L))],
+            [((0, 2), (1, 3, 4), (5, 8, 6, 7), (9,)), ((0, 2), (1, 4, 3), (5, 6, 7, 8), (9,)), True, True, 1])
+        with self.assertRaises(errors.BadMove):
+            moved(P, N, ("hop", (0, 1), 0))
+
+    def test_twists(self):
+        self.assertEqual(
+            [changed(R, ("twist", (0, 1))), changed(P, ("split", (0, 1))),
+             changed((5, ((0, 4), (0, 4), (1, 2), (2, 2), (2, 3))), ("glue", 1, 4)) == P,
+             changed((3, ((0, 2),)), ("names", (0, None, 1)))],
+            [(5, ((1, 2), (0, 1), (2, 3), (3, 4), (0, 4), (0, 2))), (5, ((0, 4), (0, 4), (1, 2), (2, 2), (2, 3))), True,
+             (2, ((0, 1),))])
+        self.assertEqual(
+            [same_rings(P, Q), ring_form(P) == ring_form(Q), as_ties(P, (4, 3, 2, 1, 0)), least_spots(P),
+             rings(ring_of_web(3, ((0, 1, 2),))), ring_of_web(3, ((0, 1), (0, 2)))],
+            [True, True, (4, ((2, 3), (2, 2), (1, 2), (0, 1), (0, 1))), 4, ((0, 1, 2),), None])
+        with self.assertRaises(errors.BadChange):
+            changed(P, ("twist", (3,)))
 
 
 if __name__ == "__main__":

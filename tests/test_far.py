@@ -12,7 +12,7 @@ from flatbonds.webs import drawn_in
 from samples import far_webs, random_block, random_web
 from test_conventions import answer, calls_for
 
-LONG = 5
+LONG = 2
 
 
 class FarWebsTest(unittest.TestCase):

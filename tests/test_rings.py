@@ -1,5 +1,6 @@
 """[B1] to [B3] and [A2] (c): even picks, cuts, rings, bonds and sums."""
 
+import itertools
 import random
 import unittest
 
@@ -9,9 +10,15 @@ from flatbonds.rings import (
 )
 import plain
 from samples import (
-    BARE, F, H, LINE, LOOP, P, W, beside_one_another, bundle, fan_of_paths, full, path, prism, random_picks, ring,
-    small_webs, tied_on, with_loops, with_spots
+    BARE, F, H, LINE, LOOP, P, W, beside_one_another, bundle, drawn_order, fan_of_paths, full, path, prism, put_together,
+    random_block, random_picks, random_web, ring, small_webs, tied_on, wheel, with_loops, with_spots
 )
+
+
+def first_ring(web):
+    """The ties of the one ring of the web."""
+    (found,) = rings(web)
+    return found
 
 
 class KindsOfPicksTest(unittest.TestCase):
@@ -90,6 +97,58 @@ class ListsTest(unittest.TestCase):
         self.assertEqual(len(bonds(beside_one_another(ring(45), ring(5)))), 1000)
         self.too_many(bonds, beside_one_another(ring(45), ring(5), LINE))
         self.too_many(bonds, tied_on(tied_on(ring(45), ring(5)), LINE, 3))
+
+    def test_bonds_of_rings_with_ties_behind_them(self):
+        rng = random.Random(17)
+        for ties in range(40, 47):
+            for behind in range(15):
+                if ties + behind > 60:
+                    continue
+                for web in (tied_on(ring(ties), path(behind + 1), ties - 1),
+                            beside_one_another(path(behind + 1), ring(ties)),
+                            drawn_order(rng, tied_on(ring(ties), path(behind + 1)))):
+                    around = first_ring(web)
+                    known = list(itertools.combinations(around, 2))
+                    known += [(tie,) for tie in range(len(web[1])) if tie not in around]
+                    if len(known) > 1000:
+                        self.too_many(bonds, web)
+                    else:
+                        self.assertEqual(bonds(web), tuple(sorted(known)))
+
+    def test_bonds_of_roads_of_two_ties(self):
+        rng = random.Random(18)
+        for roads in (1, 2, 3, 8, 9):
+            pairs = [(2 * road, 2 * road + 1) for road in range(roads)]
+            known = [tuple(choice) for choice in itertools.product(*pairs)] + pairs
+            self.assertEqual(bonds(fan_of_paths(roads, 2)), tuple(sorted(set(known) if roads > 1 else [(0,), (1,)])))
+        for web in (fan_of_paths(10, 2), drawn_order(rng, fan_of_paths(10, 2)), tied_on(fan_of_paths(10, 2), LINE)):
+            self.too_many(bonds, web)
+
+    def test_bonds_by_sides(self):
+        rng = random.Random(19)
+        webs = [random_block(rng, rng.randint(2, 9), rng.randint(9, 24)) for _ in range(80)]
+        webs += [random_web(rng, rng.randint(2, 9), rng.randint(3, 28)) for _ in range(80)]
+        webs += [drawn_order(rng, web) for web in (wheel(9), full(8), prism(5), tied_on(full(6), wheel(4)))]
+        webs += [put_together(rng, *rng.choices([W, F, ring(3), bundle(3), wheel(4)], k=3)) for _ in range(40)]
+        listed = 0
+        for web in webs:
+            known = plain.bonds_by_sides(web) if web[0] < 12 else None
+            if known is None:
+                continue
+            if len(known) > 1000:
+                self.too_many(bonds, web)
+            else:
+                listed += 1
+                self.assertEqual(bonds(web), known)
+        self.assertGreater(listed, 150)
+
+    def test_bonds_of_wheels(self):
+        for spokes in (3, 4, 10, 30):
+            found = bonds(wheel(spokes))
+            # One for each row of spots round the wheel, and that of all of them.
+            self.assertEqual(len(found), spokes * (spokes - 1) + 1)
+            self.assertEqual(list(found), sorted(set(found)))
+            self.assertTrue(all(is_bond(wheel(spokes), bond) for bond in found[::9]))
 
     def test_very_many(self):
         twice = beside_one_another(full(8), full(8))

@@ -9,8 +9,9 @@ from flatbonds.rings import is_ring
 from flatbonds.trees import crossing, is_firm, is_parting, joins, meeting, part_web, poles, tree, tree_holds
 import plain
 from samples import (
-    BARE, F, H, LINE, LOOP, ODD_VALUES, P, R, W, beside_one_another, bundle, fan_of_paths, full, ladder, path, prism,
-    random_block, random_picks, ring, small_blocks, small_webs, tied_on, wheel, with_loops, with_spots
+    BARE, F, H, LINE, LOOP, ODD_VALUES, P, R, W, beside_one_another, bundle, drawn_order, drawn_parts, fan_of_paths, full,
+    ladder, path, prism, put_together, random_block, random_picks, ring, small_blocks, small_webs, tied_on, wheel,
+    with_loops, with_spots
 )
 
 NO_BLOCKS = [BARE, P, path(3), with_loops(LOOP, 1), with_loops(W, 1), with_spots(W, 5), with_spots(LINE, 3),
@@ -66,6 +67,30 @@ class TreeTest(unittest.TestCase):
         self.assertEqual(tree(bundle(60)), (("bundle", tuple(range(60))),))
         self.assertEqual(tree(full(11)), (("firm", tuple(range(55))),))
 
+    def test_small_blocks_by_strands(self):
+        for web in small_blocks(62, 60, 7, 10):
+            self.assertEqual(plain.joins_by_strands(web), plain.joins(web))
+
+    def test_put_together_up_to_sixty_ties(self):
+        rng = random.Random(63)
+        webs = [drawn_parts(rng, most) for most in (10, 20, 30, 45, 60, 60) for _ in range(6)]
+        webs += [put_together(rng, *[ring(3), bundle(3)] * 10), put_together(rng, *[ring(9), bundle(4), wheel(4)] * 3)]
+        webs += [drawn_order(rng, web) for web in (wheel(30), bundle(60), ladder(20), fan_of_paths(6, 10))]
+        self.assertGreater(max(len(web[1]) for web in webs), 55)
+        for web in webs:
+            known = plain.joins_by_strands(web)
+            self.assertEqual(joins(web), known)
+            self.assertEqual(tree(web), plain.tree(web, known))
+            self.assertIs(tree_holds(web, plain.tree(web, known)), True)
+
+    def test_rings_in_a_drawn_order(self):
+        rng = random.Random(64)
+        for ties in (3, 4, 5, 14, 30, 60):
+            web = drawn_order(rng, ring(ties))
+            self.assertEqual([joins(web), tree(web)], [(), (("ring", tuple(range(ties))),)])
+            twice = drawn_order(rng, (ties, web[1] + web[1][:1]))
+            self.assertEqual(sorted(kind for kind, _ in tree(twice)), ["bundle", "ring"])
+
     def check_parts(self, web):
         known = tree(web)
         sides = joins(web)
@@ -76,6 +101,8 @@ class TreeTest(unittest.TestCase):
             self.assertEqual(len(part[1]), len(members))
             self.assertTrue(is_block(part))
             self.assertEqual(is_firm(part), kind == "firm")
+            if part[0] < 16:
+                self.assertEqual(plain.is_firm_block(part), kind == "firm")
             if kind == "ring":
                 self.assertTrue(is_ring(part, tuple(range(len(members)))))
             if kind == "bundle":
