@@ -1,78 +1,21 @@
-"""All bonds of a block, found by shrinking it.
-
-An item that stands for several ties keeps the ways to cut it, which part its two ends, and the bonds within it, which
-do not. Each cut of an item belongs to some bond of the block, so there are as many bonds, at least, as an item has
-cuts and bonds within it. Cuts and bonds are masks of ties.
-"""
+"""All bonds of a block, found by shrinking it."""
 
 from flatbonds.bounds import MAX_LISTED
-from flatbonds.errors import TooMany
-from flatbonds.helpers import flooded, places_of
+from flatbonds.helpers import flooded, mask_of, places_of
+from flatbonds.listing import Listing, coded, decoded
 from flatbonds.shrinking import masks_of_rows, shrunk_items
-
-
-class Cutting:
-    """The items of a block, the cuts of each, and the bonds within all of them."""
-
-    def __init__(self, ties):
-        self.ends = list(ties)
-        self.cuts = [[1 << tie] for tie in range(len(ties))]
-        self.within = []
-
-    def made_by(self, kind, items, low, high):
-        """A new item in the place of two; TooMany if it tells of more than MAX_LISTED bonds."""
-        first, last = self.cuts[items[0]], self.cuts[items[1]]
-        ask_few(len(first) * len(last))
-        both = [cut | other for cut in first for other in last]
-        if kind == "ring":
-            self.within.extend(both)
-            self.cuts.append(first + last)
-        else:
-            self.cuts.append(both)
-        ask_few(len(self.within) + len(self.cuts[-1]))
-        self.ends.append((min(low, high), max(low, high)))
-        return len(self.ends) - 1
-
-
-def ask_few(many):
-    """Raises TooMany if there are more than MAX_LISTED."""
-    if many > MAX_LISTED:
-        raise TooMany(MAX_LISTED)
 
 
 def bond_masks(web, block):
     """The masks of all bonds in a block of the web with two spots at least; TooMany if they are above MAX_LISTED."""
-    cutting = Cutting(web[1])
-    rows = shrunk_items(cutting, list(block))
-    if len(rows) > 2:
-        return cutting.within + _bonds_across(len(web[1]), cutting, rows)
-    item = [row[spot] for row in list(rows.values()) for spot in row][0]
-    return cutting.within + cutting.cuts[item]
-
-
-def _bonds_across(many, cutting, rows):
-    """The bonds that part the spots of the rows in two: each item between the two sides is cut, in each way."""
-    # An item with one cut is told by its ties, any other one by a place behind all ties.
-    choices, stars = [], {spot: 0 for spot in rows}
-    for low in rows:
-        for high in rows[low]:
-            if low < high:
-                ways = cutting.cuts[rows[low][high]]
-                code = ways[0]
-                if len(ways) > 1:
-                    code = 1 << (many + len(choices))
-                    choices.append(ways)
-                stars[low] = stars[low] | code
-                stars[high] = stars[high] | code
-    found = []
-    for code in _parted_in_two(masks_of_rows(rows), stars):
-        masks = [code & ((1 << many) - 1)]
-        for place in places_of(code >> many):
-            ask_few(len(masks) * len(choices[place]))
-            masks = [mask | cut for mask in masks for cut in choices[place]]
-        found.extend(masks)
-        ask_few(len(found))
-    return found
+    listing = Listing(web[1], "bundle")
+    rows = shrunk_items(listing, list(block))
+    if len(rows) == 2:
+        item = [row[spot] for row in list(rows.values()) for spot in row][0]
+        return listing.within + listing.ways[item]
+    codes, choices = coded(listing, len(web[1]), rows)
+    stars = {spot: sum(list(codes[spot].values())) for spot in codes}
+    return listing.within + decoded(len(web[1]), _parted_in_two(masks_of_rows(rows), stars), choices)
 
 
 def _parted_in_two(beside, stars):
@@ -82,9 +25,7 @@ def _parted_in_two(beside, stars):
     always hang together: what is parted from those left out, when a spot is put into the side, goes with it. A spot
     beside those left out is taken first: while these hang together, it can be put into the side and left out.
     """
-    everywhere = 0
-    for spot in beside:
-        everywhere = everywhere | (1 << spot)
+    everywhere = mask_of(beside)
     root = (everywhere & -everywhere).bit_length() - 1
     found = []
     begun = [(1 << root, 0, beside[root], 0, stars[root])]

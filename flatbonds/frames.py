@@ -130,7 +130,7 @@ def all_layings_of(web, frames):
 
 
 def _fixed_turns(layout, choice):
-    """The turns of the spots, those that are the same in all flat layings at least; and the spots of the others."""
+    """A turn for each spot, and the spots whose turns are not the same in all flat layings."""
     rows = [_turns_at(layout, spot, choice) for spot in range(len(layout.moving))]
     changing = [spot for spot, turns in enumerate(rows) if layout.moving[spot] or len(turns) > 1]
     return ([turns[0] for turns in rows], changing)

@@ -126,3 +126,19 @@ def first_way(rows, start, goals):
         step, place = back[place]
         way.append(step)
     return tuple(way[::-1])
+
+
+def spots_along(web, spot, value):
+    """The spots, from spot on, along a tuple of ties; None if value is none that leads from spot to new ones alone."""
+    if not is_row(value, len(web[1])):
+        return None
+    line = [spot]
+    for tie in value:
+        a, b = web[1][tie]
+        if line[-1] not in (a, b):
+            return None
+        further = a + b - line[-1]
+        if further in line:
+            return None
+        line.append(further)
+    return line

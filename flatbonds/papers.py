@@ -4,7 +4,7 @@ from flatbonds.blocks import blocks
 from flatbonds.bounds import MAX_OUT
 from flatbonds.errors import TooMany
 from flatbonds.flatness import lies_flat, shrunk
-from flatbonds.helpers import exits, first_way, is_below, is_pair, is_row
+from flatbonds.helpers import exits, first_way, is_below, is_pair, is_row, mask_of, spots_along
 from flatbonds.outs import bared, first_out
 from flatbonds.parts import parts_of
 from flatbonds.weaves import Weave
@@ -24,14 +24,12 @@ def paper_holds(web, value):
     pairs = _pairs_of(kind)
     if not isinstance(paths, tuple) or len(paths) != len(pairs):
         return False
-    been = 0
-    for corner in corners:
-        been = been | (1 << corner)
+    been = mask_of(corners)
     for (first, last), path in zip(pairs, paths):
-        between = _between(web, corners[first], corners[last], path)
-        if between is None:
+        line = spots_along(web, corners[first], path)
+        if line is None or line[-1] != corners[last]:
             return False
-        for spot in between:
+        for spot in line[1:-1]:
             if been >> spot & 1:
                 return False
             been = been | (1 << spot)
@@ -55,21 +53,6 @@ def _pairs_of(kind):
     if last == 0:
         return [(at, further) for at in range(first) for further in range(at + 1, first)]
     return [(at, first + further) for at in range(first) for further in range(last)]
-
-
-def _between(web, first, last, value):
-    """The spots between on the path from first to last that value is; None if it is no tuple of ties that lead so."""
-    if not is_row(value, len(web[1])) or len(value) == 0:
-        return None
-    line = [first]
-    for tie in value:
-        a, b = web[1][tie]
-        if line[-1] not in (a, b) or line[-1] == last:
-            return None
-        line.append(a + b - line[-1])
-    if line[-1] != last or len(set(line)) < len(line):
-        return None
-    return line[1:-1]
 
 
 def _paper(web, kind, pick):

@@ -7,7 +7,7 @@ are put together again; the new items that are left over are the joins. Items ar
 numbers, the new items by greater ones.
 """
 
-from flatbonds.helpers import places_of
+from flatbonds.helpers import mask_of, places_of
 from flatbonds.shrinking import masks_of_rows, shrunk_items
 
 
@@ -94,9 +94,7 @@ def _split(taking, rows):
 
 def _loose_side(beside):
     """Two spots, and the mask of others that hang together with the rest at these two alone; None if there are none."""
-    everywhere = 0
-    for spot in beside:
-        everywhere = everywhere | (1 << spot)
+    everywhere = mask_of(beside)
     for spot in beside:
         found = _held_by_one(beside, everywhere & ~(1 << spot))
         if found is not None:

@@ -1,8 +1,7 @@
-"""A web with just some given rings, for at most six ties.
+"""A web with just some given rings, for a few ties.
 
-The sums of picks are the even picks of some web with so few ties, if only the least of them are just these picks:
-sums that are those of no web have seven ties at least. So one looks for trees of the ties that are the greatest one of
-no ring, till in one of them each other tie has a way for its ring.
+The rings of a web are the least sums of themselves. If the picks are so, one looks for a tree of the ties that are the
+greatest one of no pick, in which each other tie has a way for its ring. With six ties or fewer there always is one.
 """
 
 from flatbonds.helpers import mask_of, places_of
@@ -23,6 +22,8 @@ def web_with_rings(count, picks):
         if others & (others - 1) == 0:
             ways[others.bit_length() - 1] = places_of(mask & inside)
     ends = _tree(forest, ways)
+    if ends is None:
+        return None
     ties = [ends[tie] if tie in ends else _ends_of(ends, ways[tie]) for tie in range(count)]
     return (len(forest) + 1, tuple(ties))
 

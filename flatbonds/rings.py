@@ -1,10 +1,11 @@
 """Even picks and cuts, rings and bonds, and the sums of picks."""
 
 from flatbonds.blocks import blocks
-from flatbonds.bounds import MAX_LISTED
-from flatbonds.cutting import ask_few, bond_masks
-from flatbonds.errors import InForest, Neither, NotInForest, TooMany
+from flatbonds.circling import ring_masks
+from flatbonds.cutting import bond_masks
+from flatbonds.errors import InForest, Neither, NotInForest
 from flatbonds.helpers import exits, first_way, flooded, mask_of, neighbours, places_of, reached
+from flatbonds.listing import ask_few
 from flatbonds.webs import pieces, spots_of, taken_out, web_of
 
 
@@ -55,34 +56,13 @@ def _side_of_cut(web, pick):
 def rings(web):
     """The ascending tuple of all rings; TooMany if there are more than MAX_LISTED."""
     found = []
-    for tie in range(len(web[1])):
-        found.extend(_rings_from(web, tie, MAX_LISTED - len(found)))
-        if len(found) > MAX_LISTED:
-            raise TooMany(MAX_LISTED)
-    return tuple(sorted(found))
-
-
-def _rings_from(web, tie, most):
-    """The rings whose first tie is this one; if there are more than so many, some of them, yet more than so many."""
-    spots, ties = web
-    first, last = ties[tie]
-    if first == last:
-        return [(tie,)]
-    rows = exits(web, list(range(tie + 1, len(ties))))
-    beside = neighbours((spots, ties[tie + 1:]))
-    everywhere = (1 << spots) - 1
-    found = []
-    begun = [(first, 1 << first, (tie,))]
-    while begun and len(found) <= most:
-        spot, been, row = begun.pop()
-        # Only a step to a spot from which last can still be reached is taken, so each row leads to a ring.
-        open_spots = flooded(1 << last, everywhere & ~been, beside)
-        for further_tie, further in rows[spot]:
-            if further == last:
-                found.append(tuple(sorted([*row, further_tie])))
-            elif open_spots >> further & 1:
-                begun.append((further, been | (1 << further), (*row, further_tie)))
-    return found
+    for block in blocks(web):
+        if len(spots_of(web, block)) > 1:
+            found.extend(ring_masks(web, block))
+        else:
+            found.append(mask_of(block))
+        ask_few(len(found))
+    return tuple(sorted([places_of(mask) for mask in found]))
 
 
 def bonds(web):

@@ -2,7 +2,9 @@
 
 from flatbonds.blocks import is_block
 from flatbonds.errors import NotBlock, SameSpot
-from flatbonds.helpers import exits, first_way, flooded, is_ascending, is_pair, is_row, mask_of, neighbours, reached
+from flatbonds.helpers import (
+    exits, first_way, flooded, is_ascending, is_pair, is_row, mask_of, neighbours, reached, spots_along
+)
 from flatbonds.webs import spots_of
 
 
@@ -94,7 +96,7 @@ def roads_hold(web, spot, last, value):
         return False
     spots, ties = 0, 0
     for road in value:
-        line = _spots_along(web, spot, road)
+        line = spots_along(web, spot, road)
         if line is None or line[-1] != last:
             return False
         if mask_of(line[1:-1]) & spots or mask_of(road) & ties:
@@ -102,22 +104,6 @@ def roads_hold(web, spot, last, value):
         spots = spots | mask_of(line[1:-1])
         ties = ties | mask_of(road)
     return True
-
-
-def _spots_along(web, spot, value):
-    """The spots, from spot on, along a tuple of ties; None if value is none that leads from spot to new ones alone."""
-    if not is_row(value, len(web[1])):
-        return None
-    line = [spot]
-    for tie in value:
-        a, b = web[1][tie]
-        if line[-1] not in (a, b):
-            return None
-        further = a + b - line[-1]
-        if further in line:
-            return None
-        line.append(further)
-    return line
 
 
 def stop_holds(web, spot, last, value):
@@ -178,7 +164,7 @@ def ears_hold(web, tie, value):
         return False
     covered = mask_of(spots_of(web, value[0]))
     for ear in value[1:]:
-        if not any([_is_ear(covered, _spots_along(web, start, ear)) for start in web[1][ear[0]]]):
+        if not any([_is_ear(covered, spots_along(web, start, ear)) for start in web[1][ear[0]]]):
             return False
         covered = covered | mask_of(spots_of(web, ear))
     return True
@@ -189,7 +175,7 @@ def _leads_round(web, row):
     if len(row) == 1:
         return web[1][row[0]][0] == web[1][row[0]][1]
     for start in web[1][row[0]]:
-        line = _spots_along(web, start, row[:-1])
+        line = spots_along(web, start, row[:-1])
         if line is not None and web[1][row[-1]] == (min(start, line[-1]), max(start, line[-1])):
             return True
     return False
@@ -213,7 +199,7 @@ def rising(web, tie):
     for ear in [rest_of_ring, *further]:
         if len(ear) > 1:
             start = [spot for spot in web[1][ear[0]] if spot in order][0]
-            order = _put_between(order, _spots_along(web, start, ear))
+            order = _put_between(order, spots_along(web, start, ear))
     return tuple(order)
 
 

@@ -5,6 +5,8 @@ ends of each item, and a method made_by(kind, items, low, high), which returns t
 that stands for the two items; the kind is "ring" for items one behind the other, "bundle" for such beside one another.
 """
 
+from flatbonds.helpers import mask_of
+
 
 def shrunk_items(work, items):
     """For each spot that is left a dict of items by neighbours, when the items of a block are shrunk.
@@ -38,10 +40,4 @@ def _put(work, rows, item):
 
 def masks_of_rows(rows):
     """For each spot of the rows the mask of its neighbours."""
-    beside = {}
-    for spot in rows:
-        mask = 0
-        for near in rows[spot]:
-            mask = mask | (1 << near)
-        beside[spot] = mask
-    return beside
+    return {spot: mask_of(rows[spot]) for spot in rows}

@@ -54,6 +54,18 @@ def bonds_by_sides(web):
     return tuple(sorted(found))
 
 
+def rings_by_roads(web):
+    """The rings of a web that has not too many: each one from its first tie."""
+    found = set()
+    for tie, (a, b) in enumerate(web[1]):
+        if a == b:
+            found.add((tie,))
+        else:
+            further = (web[0], tuple(ends if other > tie else (a, a) for other, ends in enumerate(web[1])))
+            found.update(tuple(sorted((tie, *ties))) for ties, _ in roads(further, a, b))
+    return tuple(sorted(found))
+
+
 def hang_together(web, spots):
     """Whether these spots are in one piece by ties between them alone."""
     inside = (web[0], tuple(ends for ends in web[1] if set(ends) <= spots))

@@ -142,6 +142,30 @@ class ListsTest(unittest.TestCase):
                 self.assertEqual(bonds(web), known)
         self.assertGreater(listed, 150)
 
+    def test_rings_by_roads(self):
+        rng = random.Random(20)
+        webs = [random_block(rng, spots, ties) for spots in range(5, 45, 4) for ties in range(spots, spots + 7, 2)]
+        webs += [random_web(rng, rng.randint(2, 9), rng.randint(3, 15)) for _ in range(80)]
+        webs += [drawn_order(rng, web) for web in (wheel(9), full(6), prism(4), tied_on(full(5), wheel(4)), bundle(30))]
+        webs += [put_together(rng, *rng.choices([W, F, ring(3), bundle(3), wheel(4)], k=3)) for _ in range(40)]
+        webs += [drawn_order(rng, web) for web in (fan_of_paths(45, 1), fan_of_paths(9, 4), bundle(45), bundle(46))]
+        listed = 0
+        for web in webs:
+            known = plain.rings_by_roads(web)
+            if len(known) > 1000:
+                self.too_many(rings, web)
+            else:
+                listed += 1
+                self.assertEqual(rings(web), known)
+        self.assertGreater(listed, 150)
+
+    def test_rings_of_wheels(self):
+        for spokes in (3, 4, 10, 30):
+            found = rings(wheel(spokes))
+            self.assertEqual(len(found), spokes * (spokes - 1) + 1)
+            self.assertEqual(list(found), sorted(set(found)))
+            self.assertTrue(all(is_ring(wheel(spokes), each) for each in found[::9]))
+
     def test_bonds_of_wheels(self):
         for spokes in (3, 4, 10, 30):
             found = bonds(wheel(spokes))

@@ -9,7 +9,7 @@ from flatbonds.errors import TooMany
 from flatbonds.layings import all_layings, filled, how_many, lay, open_pairs, over
 from flatbonds.moves import moves_between, way
 from flatbonds.papers import bare, fewest_out, forbidden, is_outer, outer_paper, two_road_paper, unwoven
-from flatbonds.rings import bonds
+from flatbonds.rings import bonds, rings
 from flatbonds.trees import crossing, joins, meeting, part_web, tree, tree_holds
 from flatbonds.twists import form_way, form_way_holds, ring_form, rings_part, same_rings
 from flatbonds.webs import pieces
@@ -62,6 +62,13 @@ class SpeedTest(unittest.TestCase):
             bonds(webs[25])
         webs = small_webs(172, 500, 8, 8)
         self.assertLess(seconds([(bonds, (web,)) for web in webs]), 2)
+
+    def test_about_a_thousand_rings(self):
+        rng = random.Random(176)
+        webs = [wheel(30), wheel(20), bundle(45), bundle(46), fan_of_paths(30, 2), ladder(20), random_web(rng, 50, 60),
+                random_web(rng, 30, 60), cubic_web(rng, 40), random_block(rng, 50, 60)]
+        webs = [drawn_order(rng, web) for web in webs for _ in range(10)]
+        self.assertLess(seconds([(rings, (web,)) for web in webs]), 5)
 
     def test_small_webs(self):
         webs = small_webs(173, 200, 8, 8)

@@ -361,6 +361,14 @@ class RingOfWebTest(unittest.TestCase):
         self.assertIsNone(ring_of_web(3, ((0,), (0, 1))))
         self.assertIsNone(ring_of_web(6, rings(W)[1:]))
 
+    def test_somewhat_beyond(self):
+        for web in (wheel(4), ring(8), bundle(7), path(8), tied_on(W, LINE), fan_of_paths(4, 2)):
+            self.assertEqual(rings(ring_of_web(len(web[1]), rings(web))), rings(web))
+        # Seven ties with seven rows of three, each two of which have one tie in common, and the rests of the rows.
+        rows = [(0, 1, 3), (1, 2, 4), (2, 3, 5), (3, 4, 6), (0, 4, 5), (1, 5, 6), (0, 2, 6)]
+        rests = [tuple(tie for tie in range(7) if tie not in row) for row in rows]
+        self.assertIsNone(ring_of_web(7, tuple(rows + rests)))
+
 
 class LeastSpotsTest(unittest.TestCase):
     def test_of_all_webs_with_the_rings(self):
