@@ -8,7 +8,7 @@ at only if it has one of each witness known so far, and tells of one more witnes
 from flatbonds.blocks import blocks
 from flatbonds.bounds import MAX_OUT
 from flatbonds.flatness import lies_flat
-from flatbonds.helpers import mask_of, places_of
+from flatbonds.helpers import mask_of
 from flatbonds.shrinking import shrunk_items
 
 _FEW_PICKS = 30

@@ -12,7 +12,7 @@ from flatbonds.webs import pieces, taken_out
 import plain
 from samples import (
     BARE, F, H, LINE, LOOP, ODD_VALUES, P, PETERSEN, R, T, W, beside_one_another, bundle, chain_of, cubic_web,
-    drawn_parts, fan_of_paths, far_webs, flat_web, full, ladder, path, put_together, random_picks, random_web, ring,
+    drawn_parts, fan_of_paths, far_webs, flat_web, full, ladder, put_together, random_picks, random_web, ring,
     small_blocks, small_webs, tied_on, wheel, with_loops, with_spots
 )
 

@@ -12,7 +12,7 @@ from flatbonds.webs import darts_at, pieces, taken_out
 import plain
 from samples import (
     BARE, F, H, LINE, LOOP, ODD_VALUES, P, PETERSEN, R, T, W, beside_one_another, bundle, cubic_web, drawn_order,
-    drawn_parts, fan_of_paths, far_webs, flat_web, full, path, put_together, random_web, ring, small_blocks, small_webs,
+    fan_of_paths, far_webs, flat_web, full, path, put_together, random_web, ring, small_blocks, small_webs,
     tied_on, wheel, with_loops, with_spots
 )
 

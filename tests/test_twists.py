@@ -5,16 +5,16 @@ import random
 import unittest
 
 from flatbonds.errors import BadChange, Unfit
-from flatbonds.rings import bonds, first_forest, is_even, is_ring, rings
+from flatbonds.rings import bonds, is_ring, rings
 from flatbonds.twists import (
     as_ties, changed, form_way, form_way_holds, least_spots, ring_form, ring_of_web, rings_part, same_rings
 )
 from flatbonds.webs import pieces
 import plain
 from samples import (
-    BARE, F, H, LINE, LOOP, ODD_VALUES, P, PETERSEN, R, T, W, beside_one_another, bundle, drawn_order, drawn_parts,
-    fan_of_paths, far_webs, full, ladder, path, put_together, random_block, random_web, ring, small_blocks, small_webs,
-    tied_on, wheel, with_loops, with_spots
+    BARE, F, H, LINE, LOOP, ODD_VALUES, P, R, W, bundle, drawn_parts,
+    fan_of_paths, far_webs, ladder, path, random_block, random_web, ring, small_blocks, small_webs,
+    tied_on, wheel
 )
 
 Q = (4, ((0, 1), (0, 1), (1, 2), (0, 0), (1, 3)))
