@@ -106,7 +106,7 @@ def _held_by_one(beside, allowed):
     """A spot and the mask of others that hang together with the allowed rest at it alone; None if there is none.
 
     The allowed spots hang together. They are searched in depth: what lies beyond a step is held by the spot from
-    which the step was taken if it has no other neighbour.
+    which the step was taken if it has no other neighbour; this tells nothing if it is all but the first spot.
     """
     root = (allowed & -allowed).bit_length() - 1
     path, inner, around = [root], [1 << root], [0]
@@ -126,7 +126,7 @@ def _held_by_one(beside, allowed):
         path.pop()
         mask = inner.pop()
         reach = (around.pop() | beside[spot]) & allowed
-        if reach & ~mask == 1 << path[-1] and (len(path) > 1 or mask | (1 << root) != allowed):
+        if reach & ~mask == 1 << path[-1] and mask | (1 << root) != allowed:
             return (path[-1], mask)
         inner[-1] = inner[-1] | mask
         around[-1] = around[-1] | reach

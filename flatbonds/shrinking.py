@@ -19,7 +19,7 @@ def shrunk_items(work, items):
     thin = [spot for spot in rows if len(rows[spot]) == 2]
     while thin and len(rows) > 2:
         spot = thin.pop()
-        if spot not in rows or len(rows[spot]) > 2:
+        if spot not in rows:
             continue
         (low, first), (high, last) = list(rows[spot].items())
         del rows[spot], rows[low][spot], rows[high][spot]

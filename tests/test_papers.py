@@ -189,6 +189,18 @@ class BareTest(unittest.TestCase):
 
 
 class FewestOutTest(unittest.TestCase):
+    def check_fewest(self, web, counts):
+        """Looks at the web, and counts it by the size of the pick."""
+        known = plain.fewest_out(web, is_flat_web, 2)
+        size = None if known is None else len(known)
+        counts[size] = counts.get(size, 0) + 1
+        if known is None:
+            with self.assertRaises(TooMany) as caught:
+                fewest_out(web)
+            self.assertEqual(caught.exception.limit, 2)
+        else:
+            self.assertEqual(fewest_out(web), known)
+
     def test_all_picks(self):
         rng = random.Random(124)
         webs = [random_web(rng, rng.randint(5, 8), rng.randint(10, 20), False) for _ in range(120)]
@@ -200,15 +212,14 @@ class FewestOutTest(unittest.TestCase):
         webs += [subdivided(rng, web, 30) for web in (full(7), tied_on(tied_on(T, F), T))]
         counts = {}
         for web in webs:
-            known = plain.fewest_out(web, is_flat_web, 2)
-            size = None if known is None else len(known)
-            counts[size] = counts.get(size, 0) + 1
-            if known is None:
-                with self.assertRaises(TooMany) as caught:
-                    fewest_out(web)
-                self.assertEqual(caught.exception.limit, 2)
-            else:
-                self.assertEqual(fewest_out(web), known)
+            self.check_fewest(web, counts)
+        for _ in range(40):
+            # Ties that stand once, twice or three times, some of them with a spot on them.
+            spots, ties = rng.choice((F, T))
+            many = rng.choice(((1, 2, 3), (2, 3), (2, 3, 3, 3)))
+            ends = [pair for pair in ties for _ in range(rng.choice(many))]
+            if len(ends) < 24:
+                self.check_fewest(subdivided(rng, (spots, tuple(ends)), len(ends) + rng.randint(0, 3)), counts)
         self.assertEqual(set(counts), {0, 1, 2, None})
         self.assertGreater(min(counts.values()), 10, counts)
 
@@ -376,6 +387,8 @@ class UnwovenHoldsTest(unittest.TestCase):
         self.assertIs(unwoven_holds(bundle(2), (("through", 1), ("loop", 0))), False)
         self.assertIs(unwoven_holds(path(3), (("through", 0), ("end", 1))), True)
         self.assertIs(unwoven_holds(path(3), (("end", 1), ("end", 0))), True)
+        for word in ("Through", "", "through ", "thro"):
+            self.assertIs(unwoven_holds(path(3), ((word, 0), ("end", 1))), False)
         self.assertIs(unwoven_holds((2, ((0, 0), (0, 1))), (("through", 1), ("loop", 0))), False)
         self.assertIs(unwoven_holds((2, ((0, 0), (0, 1))), (("end", 1), ("loop", 0))), True)
         self.assertIs(unwoven_holds((2, ((0, 0), (0, 0))), (("beside", 1), ("loop", 0))), False)

@@ -131,6 +131,8 @@ class ChangedTest(unittest.TestCase):
                 (two, ("names", (0, 1, 2, 3, "4"))), (two, ("names", (0, 1, 2, 3, (4,)))), (two, ("names", None)),
                 (two, ("names", (0, 1, 2, 3, 10 ** 399))), (two, ("names", 0, 1, 2, 3, 4)), (two, ("names",)),
                 (two, ("names", (0, 1, 2, 3, [4]))), (two, ("names", {0: 0})), ((2, ()), ("names", (None, None))),
+                (two, ("Names", (0, 1, 2, 3, None))), (two, ("", (0, 1, 2, 3, None))), (two, ("Glue", 0, 2)),
+                (two, ("", 0, 2)), (two, (None, 0, 2)), (path(3), ("Split", (0,))),
                 (R, ["twist", (0, 1)]), (R, ("twist", [0, 1])), (R, ("twist", (1, 0))), (R, ("twist", (0, 0, 1))),
                 (R, ("twist", (0, 1), 0)), (R, ("twist",)), (R, ("twist", (False, True))), (R, ("twist", None)),
                 (R, ("twist", (0, 6))), (R, ("twist", (-1, 0))), (R, ("Twist", (0, 1))), (R, ("", (0, 1))),
