@@ -18,30 +18,30 @@ def way_to_form(web):
     for block in blocks(web):
         _order_rings(steps, block)
         _twist_joins(steps, block)
-    names = _names(steps.web)
-    if names != tuple(range(steps.web[0])):
+    names = _names(steps.shape)
+    if names != tuple(range(steps.shape[0])):
         steps.take(("names", names))
-    return (tuple(steps.changes), steps.web)
+    return (tuple(steps.changes), steps.shape)
 
 
 class Steps:
     """A web while it is changed, and the changes that were done."""
 
     def __init__(self, web):
-        self.web = web
+        self.shape = web
         self.changes = []
 
     def take(self, change):
         """Does the change."""
-        self.web = change_done(self.web, change)
+        self.shape = change_done(self.shape, change)
         self.changes.append(change)
 
 
 def _split_blocks(steps):
     """Splits off block after block, each one that has just one spot in common with the blocks that are left."""
-    left = blocks(steps.web)
+    left = blocks(steps.shape)
     counts = {}
-    spots = {block: spots_of(steps.web, block) for block in left}
+    spots = {block: spots_of(steps.shape, block) for block in left}
     for block in left:
         for spot in spots[block]:
             counts[spot] = counts.get(spot, 0) + 1
@@ -59,7 +59,7 @@ def _split_blocks(steps):
 
 def _order_rings(steps, block):
     """Twists picks of the block till the members of each ring of its tree stand in ascending order."""
-    parts, sides, _ = parts_of(web_of(steps.web, block))
+    parts, sides, _ = parts_of(web_of(steps.shape, block))
     for number, (kind, members, ends) in enumerate(parts):
         if kind != "ring":
             continue
@@ -102,7 +102,7 @@ def _twist(steps, block, places):
 
 def _twist_joins(steps, block):
     """Twists the side of each join of the block's tree that does not stand as it should."""
-    parts, sides, above = parts_of(web_of(steps.web, block))
+    parts, sides, above = parts_of(web_of(steps.shape, block))
     # For each bundle the spot at which the first ends of all its joins should stand.
     heads = {}
     for join in _from_the_top(above):

@@ -9,6 +9,7 @@ At a cut spot the turns of the blocks can be put into one another in all ways in
 
 from flatbonds.blocks import blocks
 from flatbonds.flatness import flat_rows
+from flatbonds.helpers import orders_of
 from flatbonds.parts import parts_of
 from flatbonds.turns import turn_of
 from flatbonds.webs import spots_of, web_of
@@ -56,7 +57,7 @@ def ways_round(frame):
     places = list(range(len(frame.members)))
     if frame.kind != "bundle":
         return [_rows_by(frame, places, places)]
-    return [_rows_by(frame, [0, *order], [0, *order][::-1]) for order in _orders(places[1:])]
+    return [_rows_by(frame, [0, *order], [0, *order][::-1]) for order in orders_of(places[1:])]
 
 
 def _mark(frame, place, which):
@@ -81,14 +82,6 @@ def _firm_rows(frame):
     if rows is None:
         return None
     return {spot: [_mark(frame, dart // 2, dart % 2) for dart in row] for spot, row in enumerate(rows) if row}
-
-
-def _orders(places):
-    """All orders of the places."""
-    rows = [[]]
-    for place in places:
-        rows = [row[:at] + [place] + row[at:] for row in rows for at in range(len(row) + 1)]
-    return rows
 
 
 class Layout:

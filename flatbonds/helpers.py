@@ -1,7 +1,9 @@
-"""What several modules need: kinds of values, masks of places, ways along ties.
+"""What several modules need: kinds of values, numbers in words, masks of places, orders, ways along ties.
 
 A mask is an integer that tells a set of places: its bit k stands for the place k.
 """
+
+_FIGURES = "0123456789"
 
 
 def is_integer(value):
@@ -31,6 +33,18 @@ def is_ascending(value, limit):
     return all([value[at] < value[at + 1] for at in range(len(value) - 1)])
 
 
+def number_told(word, most):
+    """The integer that the word tells in decimal, without noughts ahead and with at most so many figures; or None.
+
+    A longer word tells none, so that no word is too long for int.
+    """
+    if len(word) > most or not word or any([sign not in _FIGURES for sign in word]):
+        return None
+    if word[0] == "0" and len(word) > 1:
+        return None
+    return int(word)
+
+
 def mask_of(places):
     """The mask of some places."""
     mask = 0
@@ -47,6 +61,22 @@ def places_of(mask):
         places.append(low.bit_length() - 1)
         mask = mask ^ low
     return tuple(places)
+
+
+def orders_of(places):
+    """All orders of the places."""
+    rows = [[]]
+    for place in places:
+        rows = [row[:at] + [place] + row[at:] for row in rows for at in range(len(row) + 1)]
+    return rows
+
+
+def replaced(row, places, values):
+    """A list like the row with these values at these places."""
+    found = list(row)
+    for place, value in zip(places, values):
+        found[place] = value
+    return found
 
 
 def neighbours(web):

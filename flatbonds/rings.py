@@ -38,19 +38,39 @@ def is_bond(web, pick):
 
 def _side_of_cut(web, pick):
     """The mask of a set of spots whose cut the pick is, None if it is no cut."""
+    crossed = mask_of(pick)
+    codes = codes_of_spots(web, [crossed >> tie & 1 for tie in range(len(web[1]))])
+    return None if codes is None else mask_of([spot for spot, code in enumerate(codes) if code])
+
+
+def codes_of_spots(web, codes):
+    """For each spot an integer, such that those of the ends of each tie, by ^, make its code; None if there are none.
+
+    The codes are masks, one for each tie. So several picks, one for each bit, are looked at together: there are such
+    integers just if each pick is a cut, and the bits of the pick tell the spots of the one side then.
+    """
     spots, ties = web
     rows = exits(web, list(range(len(ties))))
-    crossed = mask_of(pick)
-    side = {}
+    found = [None] * spots
     for root in range(spots):
-        if root not in side:
+        if found[root] is None:
             back = reached(rows, root)
             for spot in back:
-                side[spot] = 0 if back[spot] is None else side[back[spot][1]] ^ (crossed >> back[spot][0] & 1)
+                found[spot] = 0 if back[spot] is None else found[back[spot][1]] ^ codes[back[spot][0]]
     for tie, (a, b) in enumerate(ties):
-        if side[a] ^ side[b] != crossed >> tie & 1:
+        if found[a] ^ found[b] != codes[tie]:
             return None
-    return mask_of([spot for spot in range(spots) if side[spot]])
+    return found
+
+
+def forest_rings(web):
+    """The rings with just one tie that is not in the first forest, in the order of these ties."""
+    forest = first_forest(web)
+    inside = mask_of(forest)
+    # The ways to the spots from one of their piece, along the forest.
+    ways = codes_of_spots((web[0], tuple([web[1][tie] for tie in forest])), [1 << tie for tie in forest])
+    others = [tie for tie in range(len(web[1])) if not inside >> tie & 1]
+    return [places_of(ways[web[1][tie][0]] ^ ways[web[1][tie][1]] | (1 << tie)) for tie in others]
 
 
 def rings(web):

@@ -2,8 +2,9 @@
 
 from flatbonds.bounds import MAX_SPOTS, MAX_TIES
 from flatbonds.errors import BadText
+from flatbonds.helpers import number_told
 
-_FIGURES = "0123456789"
+# No number of a small web needs more.
 _MOST_FIGURES = 4
 
 
@@ -18,7 +19,7 @@ def parse_web(value):
     if not isinstance(value, str):
         raise BadText(None)
     lines = value.split("\n")
-    spots = _number(lines[0])
+    spots = number_told(lines[0], _MOST_FIGURES)
     if spots is None or not 1 <= spots <= MAX_SPOTS:
         raise BadText(0)
     ties = []
@@ -35,19 +36,7 @@ def _ends(line, spots):
     words = line.split(" ")
     if len(words) != 2:
         return None
-    first, last = _number(words[0]), _number(words[1])
+    first, last = [number_told(word, _MOST_FIGURES) for word in words]
     if first is None or last is None or not first <= last < spots:
         return None
     return (first, last)
-
-
-def _number(word):
-    """The integer that the word tells in decimal without noughts ahead, None if it tells none.
-
-    A longer word than any number of a small web needs is none, so that no word is too long for int.
-    """
-    if len(word) > _MOST_FIGURES or not word or any([sign not in _FIGURES for sign in word]):
-        return None
-    if word[0] == "0" and len(word) > 1:
-        return None
-    return int(word)

@@ -3,9 +3,8 @@
 from flatbonds.changes import change_done
 from flatbonds.errors import BadChange, Unfit
 from flatbonds.forms import way_to_form
-from flatbonds.helpers import exits, mask_of, places_of, reached
 from flatbonds.realising import web_with_rings
-from flatbonds.rings import first_forest, is_even
+from flatbonds.rings import first_forest, forest_rings, is_even
 
 
 def changed(web, value):
@@ -52,24 +51,10 @@ def rings_part(web, other):
         raise Unfit()
     # Each even pick is a sum of rings with a tie beside the first forest: so these are enough to look at.
     for which, one, further in ((0, web, other), (1, other, web)):
-        for ring in _first_rings(one):
+        for ring in forest_rings(one):
             if not is_even(further, ring):
                 return (which, ring)
     return None
-
-
-def _first_rings(web):
-    """The rings with just one tie that is not in the first forest."""
-    forest = first_forest(web)
-    rows = exits(web, forest)
-    ways = {}
-    for root in range(web[0]):
-        if root not in ways:
-            back = reached(rows, root)
-            for spot in back:
-                ways[spot] = 0 if back[spot] is None else ways[back[spot][1]] ^ (1 << back[spot][0])
-    inside = mask_of(forest)
-    return [places_of(ways[a] ^ ways[b] | (1 << tie)) for tie, (a, b) in enumerate(web[1]) if not inside >> tie & 1]
 
 
 def as_ties(web, names):

@@ -470,3 +470,73 @@ def fewest_moves(web, laying, last):
                 far[further] = far[at] + 1
                 queue.append(further)
     return None
+
+
+def is_opposite(web, other):
+    return len(web[1]) == len(other[1]) and rings(web) == bonds(other)
+
+
+def is_flat_basis(web, value):
+    """Whether the picks of a tuple are a flat basis, by all choices of places."""
+    if any(sum(tie in pick for pick in value) > 2 for tie in range(len(web[1]))):
+        return False
+    sums = []
+    for code in range(2 ** len(value)):
+        chosen = [pick for place, pick in enumerate(value) if code >> place & 1]
+        sums.append(tuple(tie for tie in range(len(web[1])) if sum(tie in pick for pick in chosen) % 2))
+    return sorted(sums) == sorted(evens(web))
+
+
+def is_lead(web, other, spots, ties):
+    """Whether these orders of the other web's spots and ties are a lead."""
+    return all(tuple(sorted((spots[a], spots[b]))) == other[1][ties[tie]] for tie, (a, b) in enumerate(web[1]))
+
+
+def all_leads(web, other):
+    """All leads of small webs, by all orders of the spots and of the ties."""
+    if web[0] != other[0] or len(web[1]) != len(other[1]):
+        return []
+    found = []
+    for spots in permutations(range(other[0])):
+        goals = [tuple(sorted((spots[a], spots[b]))) for a, b in web[1]]
+        rows = [()]
+        for goal in goals:
+            rows = [(*row, tie) for row in rows for tie, ends in enumerate(other[1]) if ends == goal and tie not in row]
+        found.extend((spots, ties) for ties in rows)
+    return sorted(found)
+
+
+def keeps(web, laying, other, last, lead):
+    """Whether the lead keeps both layings: the darts are led in all ways that the document allows."""
+    spots, ties = lead
+    behind, further = {}, {}
+    for known, turns in ((behind, laying), (further, last)):
+        for turn in turns:
+            known.update({dart: turn[(at + 1) % len(turn)] for at, dart in enumerate(turn)})
+    choices = []
+    for tie, ends in enumerate(web[1]):
+        goal = ties[tie]
+        both = [(2 * goal, 2 * goal + 1), (2 * goal + 1, 2 * goal)]
+        goals = other[1][goal]
+        choices.append([pair for pair in both if all(goals[dart % 2] == spots[spot] for dart, spot in zip(pair, ends))])
+    for pairs in product(*choices):
+        led = [dart for pair in pairs for dart in pair]
+        if all(further[led[dart]] == led[behind[dart]] for dart in behind):
+            return True
+        if all(further[led[behind[dart]]] == led[dart] for dart in behind):
+            return True
+    return False
+
+
+def classes(web, layings):
+    """The layings in classes of such as some lead from the web to itself keeps."""
+    leads = all_leads(web, web)
+    found = []
+    for laying in layings:
+        for row in found:
+            if any(keeps(web, row[0], web, laying, lead) for lead in leads):
+                row.append(laying)
+                break
+        else:
+            found.append([laying])
+    return found

@@ -7,10 +7,14 @@ import random
 import unittest
 
 from flatbonds.blocks import is_block
+from flatbonds.boards import Board
 from flatbonds.errors import WebError
 from flatbonds.layings import lay, over
+from flatbonds.leads import lead
+from flatbonds.opposites import by_basis, flat_basis
 from flatbonds.papers import outer_paper, unwoven
 from flatbonds.rings import rings
+from flatbonds.shells import Shell
 from flatbonds.texts import web_text
 from flatbonds.twists import form_way
 from flatbonds.webs import darts_at
@@ -49,6 +53,23 @@ INTERFACE = {
     "twists": {"changed": ["web", "value"], "ring_form": ["web"], "form_way": ["web"],
                "form_way_holds": ["web", "value"], "same_rings": ["web", "other"], "rings_part": ["web", "other"],
                "as_ties": ["web", "names"], "ring_of_web": ["count", "picks"], "least_spots": ["web"]},
+    "opposites": {"opposite": ["web", "laying"], "is_opposite": ["web", "other"], "flat_basis": ["web"],
+                  "basis_holds": ["web", "value"], "by_basis": ["web", "picks"], "by_opposite": ["web", "other"]},
+    "leads": {"lead_holds": ["web", "other", "value"], "lead": ["web", "other"], "own_leads": ["web"],
+              "laying_lead": ["web", "laying", "other", "last"], "laying_code": ["web", "laying"],
+              "unlike_layings": ["web"]},
+}
+
+# The classes, their methods and properties, and the arguments of these behind the object itself.
+CLASSES = {
+    ("boards", "Board"): {
+        "__init__": ["value"], "web": None, "laying": None, "version": None, "__len__": [], "__getitem__": ["at"],
+        "__contains__": ["x"], "__iter__": [], "__str__": [], "__eq__": ["other"], "__ne__": ["other"], "count": [],
+        "paper": [], "blocks": [], "spot": [], "tie": ["spot", "other"], "cut": ["index"], "draw": ["index"],
+        "change": ["value"], "batch": ["edits"], "undo": [], "redo": [], "at": ["version"], "news": [], "copy": [],
+        "attempt": ["work"]},
+    ("boards", "FlatBoard"): {"__init__": ["value"]},
+    ("shells", "Shell"): {"__init__": [], "say": ["line"]},
 }
 
 
@@ -58,6 +79,7 @@ GOOD_VALUES = {
     "unwoven_holds": lambda web, named: unwoven(web), "moved": lambda web, named: ("over",),
     "way_holds": lambda web, named: (("over",),), "form_way_holds": lambda web, named: form_way(web),
     "changed": lambda web, named: ("names", tuple(range(web[0]))[::-1]),
+    "basis_holds": lambda web, named: flat_basis(web), "lead_holds": lambda web, named: lead(web, named["other"]),
 }
 
 
@@ -95,16 +117,23 @@ def calls_for(web, rng):
               "tie": tie, "value": (row, row), "laying": any_laying(web), "move": ("over",),
               "spots": tuple(range(0, web[0], 3)), "names": tuple(range(len(web[1])))[::-1],
               "other": (web[0], web[1][::-1])}
+    basis = flat_basis(web)
     for module, names in INTERFACE.items():
         for name, words in names.items():
             if tie is None and "tie" in words:
                 continue
             named = {word: worths[word] for word in words if word in worths}
-            if "last" in words:
+            if name == "laying_lead":
+                named["last"] = any_laying(worths["other"])
+            elif "last" in words:
                 limit = web[0] if "spot" in words else len(web[1])
                 named["last"] = over(web, any_laying(web)) if module == "moves" else rng.randrange(limit)
             if name == "parse_web":
                 named["value"] = web_text(web)
+            if name == "by_basis":
+                named["picks"] = basis or ()
+            if name == "by_opposite" and basis is not None:
+                named["other"] = by_basis(web, basis)
             if name == "put_in":
                 named["tie"] = (0, web[0] - 1)
             if name == "ring_of_web":
@@ -122,6 +151,18 @@ class InterfaceTest(unittest.TestCase):
                 call = function(module, name)
                 self.assertEqual(list(inspect.signature(call).parameters), words, name)
                 self.assertEqual(call.__module__, "flatbonds." + module)
+
+    def test_classes(self):
+        for (module, name), words in CLASSES.items():
+            made = function(module, name)
+            self.assertEqual(made.__module__, "flatbonds." + module)
+            for method, arguments in words.items():
+                held = vars(made)[method]
+                if arguments is None:
+                    self.assertIsInstance(held, property)
+                    self.assertIsNone(held.fset)
+                else:
+                    self.assertEqual(list(inspect.signature(held).parameters)[1:], arguments, method)
 
 
 class AnswersTest(unittest.TestCase):
@@ -142,12 +183,16 @@ class AnswersTest(unittest.TestCase):
     def test_values_are_never_changed(self):
         takers = [(function(module, name), words) for module, names in INTERFACE.items()
                   for name, words in names.items() if "value" in words]
-        self.assertEqual(len(takers), 15)
+        self.assertEqual(len(takers), 17)
         for web in (W, H, R, LINE, bundle(3), ring(5)):
-            for value in ODD_VALUES + [[web], {"web": [web]}, (list(web), [1]), ([(0, 1)], [2])]:
+            board = Board(web)
+            boards = [board, Shell(), (board,), (web[0], board), (board, ()), ((board, 0),), ("flip", board),
+                      ("names", (board,) * web[0]), ("glue", 0, board), (("ring", board),), (((board,),),), [board]]
+            for value in ODD_VALUES + boards + [[web], {"web": [web]}, (list(web), [1]), ([(0, 1)], [2])]:
                 for call, words in takers:
-                    kept = copy.deepcopy(value)
-                    named = {"web": web, "spot": 0, "last": 1, "tie": 0, "value": value, "laying": any_laying(web)}
+                    kept = value if value is boards[1] else copy.deepcopy(value)
+                    named = {"web": web, "spot": 0, "last": 1, "tie": 0, "value": value, "laying": any_laying(web),
+                             "other": web}
                     if "laying" in words:
                         named["last"] = any_laying(web)
                     told = answer(call, {word: named[word] for word in words})
@@ -164,8 +209,10 @@ class AnswersTest(unittest.TestCase):
             self.assertTrue(is_block(web))
             self.assertIs(function("trees", "tree_holds")(web, None), False)
         for web in (W, P, LOOP, LINE, BARE, (3, ())):
-            for module, name in (("papers", "paper_holds"), ("papers", "unwoven_holds"), ("twists", "form_way_holds")):
+            for module, name in (("papers", "paper_holds"), ("papers", "unwoven_holds"), ("twists", "form_way_holds"),
+                                 ("opposites", "basis_holds")):
                 self.assertIs(function(module, name)(web, None), False)
+            self.assertIs(function("leads", "lead_holds")(web, web, None), False)
         for web in (W, P, LOOP, LINE):
             self.assertIs(function("moves", "way_holds")(web, lay(web), lay(web), None), False)
 
@@ -184,8 +231,10 @@ class AnswersTest(unittest.TestCase):
             self.assertIs(function("webs", "is_pick")(W, value), False)
             self.assertNotEqual(function("webs", "web_error")(value), None)
             self.assertEqual(function("layings", "laying_error")(W, value), (None, "laying"))
-            for module, name in (("papers", "paper_holds"), ("papers", "unwoven_holds"), ("twists", "form_way_holds")):
+            for module, name in (("papers", "paper_holds"), ("papers", "unwoven_holds"), ("twists", "form_way_holds"),
+                                 ("opposites", "basis_holds")):
                 self.assertIs(function(module, name)(W, value), False)
+            self.assertIs(function("leads", "lead_holds")(W, W, value), False)
             self.assertIs(function("moves", "way_holds")(W, lay(W), lay(W), value), False)
             for call, named in ((function("moves", "moved"), {"web": W, "laying": lay(W)}),
                                 (function("twists", "changed"), {"web": W})):

@@ -4,15 +4,19 @@ import unittest
 
 from flatbonds import errors
 from flatbonds.blocks import block_line, blocks, cut_spots, is_block
+from flatbonds.boards import Board, FlatBoard
 from flatbonds.layings import (
     all_layings, at_face, faces, filled, how_many, is_flat, laying_error, open_pairs, over, sides, thinned
 )
+from flatbonds.leads import laying_code, lead, lead_holds, own_leads, unlike_layings
 from flatbonds.moves import is_loose, moved, moves_between
+from flatbonds.opposites import basis_holds, by_basis, flat_basis, is_opposite, opposite
 from flatbonds.papers import bare, fewest_out, is_outer, is_two_road, paper_holds, two_road_paper, unwoven_holds
 from flatbonds.rings import (
     bond_with, bonds, first_forest, is_bond, is_cut, is_even, ring_with, rings, sum_of, summands
 )
 from flatbonds.roads import ears_hold, rising_holds, roads_apart, roads_hold, stop, stop_holds
+from flatbonds.shells import Shell
 from flatbonds.texts import parse_web, web_text
 from flatbonds.trees import crossing, is_firm, is_parting, joins, meeting, part_web, poles, tree, tree_holds
 from flatbonds.twists import as_ties, changed, least_spots, ring_form, ring_of_web, same_rings
@@ -148,6 +152,44 @@ class ExamplesTest(unittest.TestCase):
             [True, True, (4, ((2, 3), (2, 2), (1, 2), (0, 1), (0, 1))), 4, ((0, 1, 2),), None])
         with self.assertRaises(errors.BadChange):
             changed(P, ("twist", (3,)))
+
+    def test_opposites(self):
+        self.assertEqual(
+            [opposite(W, L), is_opposite(W, opposite(W, L)), is_opposite(W, W), opposite((1, ()), ((),))],
+            [(4, ((0, 1), (1, 2), (0, 2), (1, 3), (0, 3), (2, 3))), True, False, (1, ())])
+        self.assertEqual(
+            [basis_holds(W, ((0, 1, 3), (0, 2, 4), (1, 2, 5))), by_basis(W, ((0, 1, 3), (0, 2, 4), (1, 2, 5))),
+             flat_basis(F)],
+            [True, (4, ((0, 1), (0, 2), (1, 2), (0, 3), (1, 3), (2, 3))), None])
+
+    def test_leads(self):
+        self.assertEqual(
+            [lead_holds(W, W, ((1, 0, 2, 3), (0, 3, 4, 1, 2, 5))), len(own_leads(W)), unlike_layings(W), lead(W, H),
+             laying_code(W, L) == laying_code(W, over(W, L))],
+            [True, 24, 1, None, True])
+
+    def test_boards(self):
+        b = Board((3, ((0, 1), (1, 2))))
+        self.assertEqual(
+            [b.tie(2, 0), b.web, b.count(), b.news(), b.version, len(b), (0, 2) in b, str(b)],
+            [1, (3, ((0, 1), (1, 2), (0, 2))), 1, (1, 1), 1, 3, True, '3\n0 1\n1 2\n0 2'])
+        self.assertEqual(
+            [b.spot(), b.cut(0), b.web, b.undo(), b.version, b.at(0), b.blocks()],
+            [2, 3, (4, ((1, 2), (0, 2))), 2, 2, (3, ((0, 1), (1, 2))), ((0, 1, 2),)])
+        with self.assertRaises(errors.Rejected) as caught:
+            b.batch((("tie", 0, 3), ("cut", 9)))
+        self.assertEqual(caught.exception.index, 1)
+        self.assertEqual(
+            [b.batch((("tie", 3, 0), ("draw", 0))), b.web, b.news(), FlatBoard(W) == Board(W)],
+            [3, (3, ((0, 1), (0, 1), (0, 2))), (1, 2), True])
+
+    def test_shells(self):
+        s = Shell()
+        self.assertEqual(
+            [s.say("count"), s.say("new 3"), s.say("tie 0 1"), s.say("tie 1 0"), s.say("kinds"), s.say("flat"),
+             s.say("count"), s.say("parts"), s.say("web"), s.say("draw 5"), s.say("tie 0")],
+            ['no board', 'ok', 'version 1', 'version 2', 'no NotBlock', 'yes', '1', '1', '3 / 0 1 / 0 1', 'no NoTie',
+             'what'])
 
 
 if __name__ == "__main__":

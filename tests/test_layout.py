@@ -4,6 +4,8 @@ import ast
 import pathlib
 import unittest
 
+from flatbonds import errors
+
 PACKAGE = pathlib.Path(__file__).resolve().parent.parent / "flatbonds"
 FILES = sorted(PACKAGE.glob("*.py"))
 
@@ -55,6 +57,21 @@ class LayoutTest(unittest.TestCase):
                     elif isinstance(each, ast.Assign):
                         defined.add(each.targets[0].id)
                 self.assertTrue({alias.name for alias in node.names} <= defined)
+
+    def test_what_boards_rule_out_elsewhere(self):
+        """As boards compare, are measured, iterated over and read by properties, some words mean too much elsewhere."""
+        told = {"web", "laying", "version"}
+        for path in FILES:
+            for node in ast.walk(ast.parse(path.read_text())):
+                self.assertNotIsInstance(node, (ast.GeneratorExp, ast.Yield, ast.YieldFrom), path.name)
+                if isinstance(node, ast.Attribute):
+                    self.assertFalse(node.attr in told and isinstance(node.ctx, ast.Store), (path.name, node.lineno))
+                    self.assertFalse(node.attr in ("keys", "sort"), (path.name, node.lineno))
+                if isinstance(node, ast.ImportFrom):
+                    self.assertNotIn(node.module, ("itertools", "heapq"))
+                if isinstance(node, ast.ExceptHandler):
+                    self.assertIn(node.type.id, vars(errors), (path.name, node.lineno))
+                    self.assertIsNone(node.name, (path.name, node.lineno))
 
 
 if __name__ == "__main__":
