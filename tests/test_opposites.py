@@ -43,7 +43,7 @@ class OppositeTest(unittest.TestCase):
         for web in small_webs(200, 120) + small_blocks(200, 40, 5, 8):
             if len(pieces(web)) > 1:
                 continue
-            for laying in some_layings(web) if lay(web) is not None else []:
+            for laying in some_layings(web, 100) if lay(web) is not None else []:
                 found = opposite(web, laying)
                 known = faces(web, laying)
                 self.assertEqual(found[0], max(1, len(known)))
