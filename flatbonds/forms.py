@@ -47,7 +47,8 @@ def _split_blocks(steps):
             counts[spot] = counts.get(spot, 0) + 1
     while left:
         waiting = []
-        for block in left:
+        # Further down left and waiting come to be one list, so a copy is walked.
+        for block in list(left):
             shared = [spot for spot in spots[block] if counts[spot] > 1]
             if len(shared) > 1:
                 waiting.append(block)
